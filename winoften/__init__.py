@@ -1,0 +1,1 @@
+"""Winoften: who can win how often when one thing goes to one of several bidders."""

@@ -1,0 +1,156 @@
+"""Exact quotients of integers, and functions over numbers (promises 13 to 15)."""
+
+from math import gcd, lcm
+
+from winoften.errors import ByZero, InvalidNumber, InvalidText
+from winoften.forms import is_list, is_whole
+
+LONGEST_TEXT = 100
+
+
+class Ratio:
+    """The quotient of two integers, in lowest terms."""
+
+    def __init__(self, top, bottom=1):
+        if not is_whole(top):
+            raise InvalidNumber(top)
+        if not is_whole(bottom):
+            raise InvalidNumber(bottom)
+        if bottom == 0:
+            raise ByZero()
+        common = gcd(top, bottom)
+        if bottom < 0:
+            common = -common
+        self._top = top // common
+        self._bottom = bottom // common
+
+    @property
+    def top(self):
+        """The top in lowest terms; it has the sign of the quotient."""
+        return self._top
+
+    @property
+    def bottom(self):
+        """The bottom in lowest terms; it is above 0."""
+        return self._bottom
+
+    def __add__(self, other):
+        if not is_number(other):
+            return NotImplemented
+        right = as_ratio(other)
+        return Ratio(self._top * right.bottom + right.top * self._bottom, self._bottom * right.bottom)
+
+    def __sub__(self, other):
+        if not is_number(other):
+            return NotImplemented
+        right = as_ratio(other)
+        return Ratio(self._top * right.bottom - right.top * self._bottom, self._bottom * right.bottom)
+
+    def __mul__(self, other):
+        if not is_number(other):
+            return NotImplemented
+        right = as_ratio(other)
+        return Ratio(self._top * right.top, self._bottom * right.bottom)
+
+    def __neg__(self):
+        return Ratio(-self._top, self._bottom)
+
+    def __eq__(self, other):
+        if isinstance(other, Ratio):
+            return self._top == other.top and self._bottom == other.bottom
+        return is_whole(other) and self._bottom == 1 and self._top == other
+
+    def below(self, number):
+        """Tell whether this Ratio is less than a number."""
+        right = as_ratio(number)
+        return self._top * right.bottom < right.top * self._bottom
+
+    def over(self, number):
+        """Return the quotient of this Ratio by a number."""
+        right = as_ratio(number)
+        return Ratio(self._top * right.bottom, self._bottom * right.top)
+
+    def text(self):
+        """Return the text of this Ratio, such as -3/2 or 4."""
+        if self._bottom == 1:
+            return str(self._top)
+        return f"{self._top}/{self._bottom}"
+
+    @classmethod
+    def read(cls, text):
+        """Return the Ratio with a text."""
+        if not isinstance(text, str) or len(text) > LONGEST_TEXT:
+            raise InvalidText(text)
+        top, slash, bottom = text.partition("/")
+        if not slash:
+            bottom = "1"
+        if not (_is_digits(top.removeprefix("-")) and _is_digits(bottom)) or int(bottom) == 0:
+            raise InvalidText(text)
+        ratio = cls(int(top), int(bottom))
+        if ratio.text() != text:
+            raise InvalidText(text)
+        return ratio
+
+
+def is_number(value):
+    """Tell whether any value is a number."""
+    return is_whole(value) or isinstance(value, Ratio)
+
+
+def is_amount(value):
+    """Tell whether any value is a number that is at least 0."""
+    return is_number(value) and not as_ratio(value).below(0)
+
+
+def is_share(value):
+    """Tell whether any value is a number from 0 to 1."""
+    return is_amount(value) and not Ratio(1).below(value)
+
+
+def as_ratio(number):
+    """Return the Ratio that equals a number."""
+    if isinstance(number, Ratio):
+        return number
+    return Ratio(number)
+
+
+def total(numbers):
+    """Return the sum of a list of numbers."""
+    _check_numbers(numbers)
+    ratios = [as_ratio(number) for number in numbers]
+    # One common bottom for all is much faster than a sum in lowest terms after each number.
+    bottom = 1
+    for ratio in ratios:
+        bottom = lcm(bottom, ratio.bottom)
+    return Ratio(sum([ratio.top * (bottom // ratio.bottom) for ratio in ratios]), bottom)
+
+
+def least(numbers):
+    """Return the index of the first least number of a list."""
+    _check_some_numbers(numbers)
+    found = 0
+    for place in range(1, len(numbers)):
+        if as_ratio(numbers[place]).below(numbers[found]):
+            found = place
+    return found
+
+
+def greatest(numbers):
+    """Return the index of the first greatest number of a list."""
+    _check_some_numbers(numbers)
+    return least([-as_ratio(number) for number in numbers])
+
+
+def _is_digits(text):
+    return text.isascii() and text.isdigit()
+
+
+def _check_numbers(numbers):
+    if not is_list(numbers) or not all([is_number(number) for number in numbers]):
+        raise InvalidNumber(numbers)
+
+
+def _check_some_numbers(numbers):
+    _check_numbers(numbers)
+    if len(numbers) == 0:
+        raise InvalidNumber(numbers)
