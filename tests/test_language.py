@@ -149,6 +149,39 @@ class Code(unittest.TestCase):
             if isinstance(node.func, ast.Attribute):
                 self.assertIn(node.func.attr, known, (path, node.lineno))
 
+    def test_methods_properties_and_attributes_have_unlike_names(self):
+        methods, properties = set(), set()
+        for _, node in nodes(ast.ClassDef):
+            for part in node.body:
+                if isinstance(part, ast.FunctionDef):
+                    decorators = [decorator.id for decorator in part.decorator_list]
+                    (properties if "property" in decorators else methods).add(part.name)
+        stored = {node.attr for _, node in nodes(ast.Attribute) if isinstance(node.ctx, ast.Store)}
+        self.assertEqual(methods & properties, set())
+        self.assertEqual((methods | properties) & stored, set())
+        for path, node in nodes(ast.Attribute):
+            self.assertIn(node.attr, METHODS | methods | properties | stored, (path, node.lineno))
+
+    def test_loops_do_not_modify_what_they_iterate_over(self):
+        for path, node in nodes(ast.For):
+            names = {ast.unparse(part) for part in ast.walk(node.iter) if isinstance(part, (ast.Name, ast.Attribute))}
+            for part in ast.walk(ast.Module(body=node.body, type_ignores=[])):
+                if isinstance(part, ast.Subscript) and isinstance(part.ctx, ast.Store):
+                    self.assertNotIn(ast.unparse(part.value), names, (path, part.lineno))
+                if isinstance(part, ast.Call) and isinstance(part.func, ast.Attribute):
+                    if part.func.attr in ("append", "extend", "insert", "pop", "remove", "clear", "update"):
+                        self.assertNotIn(ast.unparse(part.func.value), names, (path, part.lineno))
+
+    def test_sets_are_only_counted_or_sorted(self):
+        made = {id(node) for _, node in nodes((ast.Set, ast.SetComp))}
+        self.assertEqual(made, set())
+        for path, tree in trees():
+            counted = [node.args[0] for node in ast.walk(tree) if isinstance(node, ast.Call)
+                       and isinstance(node.func, ast.Name) and node.func.id in ("len", "sorted")]
+            for node in ast.walk(tree):
+                if isinstance(node, ast.Call) and isinstance(node.func, ast.Name) and node.func.id == "set":
+                    self.assertIn(node, counted, (path, node.lineno))
+
     def test_only_lists_for_functions_that_compare(self):
         for path, node in nodes(ast.GeneratorExp):
             self.fail(f"a generator expression: {path}, {node.lineno}")

@@ -137,6 +137,22 @@ def check_pair(house, pair):
         raise UnknownPair(pair)
 
 
+def check_likely_day(house, day):
+    """Raise InvalidDay unless a value is a day of a house with a chance above 0."""
+    if house.day_chance(day) == 0:
+        raise InvalidDay(day)
+
+
+def day_text(day):
+    """Return the kinds of a day, - for a bidder that does not come, separated by spaces."""
+    return " ".join(["-" if kind is None else kind for kind in day])
+
+
+def day_of(text):
+    """Return the day whose kinds a text has; they may be wrong."""
+    return tuple([None if word == "-" else word for word in text.split(" ")])
+
+
 def _checked_bidders(bidders, checked_kinds):
     """Return the names of the bidders, each with what checked_kinds makes of its kinds."""
     if not is_list_of(bidders, 1, MOST_BIDDERS):
@@ -285,8 +301,7 @@ def _kinds_with_chances(house, name):
 
 
 def _day_line(day, chance):
-    told = " ".join(["-" if kind is None else kind for kind in day])
-    return f"day {told} {chance.text()}"
+    return f"day {day_text(day)} {chance.text()}"
 
 
 def _parsed(text):
@@ -315,6 +330,6 @@ def _parsed_kind(told):
 
 
 def _parsed_day(line):
-    words = line.split(" ")
-    day = tuple([None if word == "-" else word for word in words[1:-1]])
-    return day, Ratio.read(words[-1])
+    _, _, told = line.partition(" ")
+    day, _, chance = told.rpartition(" ")
+    return day_of(day), Ratio.read(chance)

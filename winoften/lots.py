@@ -21,6 +21,20 @@ def check_lot(house, lot):
         earlier.append(item)
 
 
+def is_lot(house, value):
+    """Tell whether any value is a list of different pairs of a house."""
+    if not is_list(value):
+        return False
+    # With an item twice, or one that is no pair, there are more items than pairs.
+    return len(value) == len([pair for pair in house.pairs() if pair in value])
+
+
+def check_size(house, most):
+    """Raise TooMany if a house has more than so many pairs."""
+    if len(house) > most:
+        raise TooMany(len(house))
+
+
 def check_count(most):
     """Raise InvalidCount unless a value is an integer from 1 to 4."""
     if not is_whole(most) or not 1 <= most <= MOST_THINGS:
@@ -60,9 +74,8 @@ def several(house, lot, most):
 def all_lots(house):
     """Tell all lots, those with fewer pairs first."""
     check_house(house)
+    check_size(house, MOST_LISTED_PAIRS)
     pairs = house.pairs()
-    if len(pairs) > MOST_LISTED_PAIRS:
-        raise TooMany(len(pairs))
     for size in range(len(pairs) + 1):
         places = list(range(size))
         while places is not None:

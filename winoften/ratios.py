@@ -114,15 +114,26 @@ def as_ratio(number):
     return Ratio(number)
 
 
+def common_bottom(numbers):
+    """Return the least bottom over which all numbers of a list can be written."""
+    bottom = 1
+    for number in numbers:
+        bottom = lcm(bottom, as_ratio(number).bottom)
+    return bottom
+
+
+def whole_over(bottom, number):
+    """Return the top of a number that is written over a bottom."""
+    ratio = as_ratio(number)
+    return ratio.top * (bottom // ratio.bottom)
+
+
 def total(numbers):
     """Return the sum of a list of numbers."""
     _check_numbers(numbers)
-    ratios = [as_ratio(number) for number in numbers]
     # One common bottom for all is much faster than a sum in lowest terms after each number.
-    bottom = 1
-    for ratio in ratios:
-        bottom = lcm(bottom, ratio.bottom)
-    return Ratio(sum([ratio.top * (bottom // ratio.bottom) for ratio in ratios]), bottom)
+    bottom = common_bottom(numbers)
+    return Ratio(sum([whole_over(bottom, number) for number in numbers]), bottom)
 
 
 def least(numbers):

@@ -1,0 +1,77 @@
+"""The interface: each name is defined in its file, with the arguments that the document lists."""
+
+import importlib
+import inspect
+import unittest
+
+FUNCTIONS = {
+    "ratios": ["is_number(value)", "is_amount(value)", "is_share(value)", "as_ratio(number)", "total(numbers)",
+               "least(numbers)", "greatest(numbers)"],
+    "lots": ["lot_of(house, lot)", "coming(house, lot)", "gain(house, lot, pair)", "several(house, lot, most)",
+             "all_lots(house)", "alike(house)"],
+    "rules": ["is_order(house, order)", "winner(house, order, day)", "order_rule(house, order)",
+              "order_wish(house, order)", "as_order(rule)", "mixture(parts)", "drawn(parts, number)"],
+    "flows": ["greatest_flow(masses, limits, links)", "is_flow(masses, limits, links, told)",
+              "is_cut(masses, limits, links, told, most)"],
+    "possible": ["excess(wish, lot)", "worst_lot(wish)", "answer(wish)", "is_possible(wish)", "is_answer(wish, told)",
+                 "top_lots(wish)", "full_lots(wish)", "room(wish, pair)", "binding(wish, pair)", "factor(wish)"],
+    "mixtures": ["mixing(wish)", "is_mixing(wish, told)", "corner_order(wish)", "corners(house)",
+                 "same_orders(house, one, other)"],
+    "best": ["worth_of(wish, worths)", "best(house, worths)", "roof(house, worths)",
+             "is_roof(house, worths, told, most)", "lost(wish, worths)", "worths_for(house, order)"],
+    "even": ["even(house, *, weights=None)", "even_steps(house, *, weights=None)", "is_even(wish, *, weights=None)",
+             "shows_even(wish, steps, *, weights=None)", "even_groups(house, groups)"],
+    "bounds": ["between(house, bounds, *, served=())", "shows_between(house, bounds, told, *, served=())",
+               "spans(house, bounds, *, served=())"],
+}
+CLASSES = {
+    ("ratios", "Ratio"): ["__init__(self, top, bottom=1)", "below(self, number)", "over(self, number)", "text(self)",
+                          "read(text)", "__add__(self, other)", "__sub__(self, other)", "__mul__(self, other)",
+                          "__neg__(self)", "__eq__(self, other)"],
+    ("houses", "House"): ["__init__(self, bidders)", "tied(bidders, days)", "names(self)", "kinds(self, name)",
+                          "pairs(self)", "chance(self, pair)", "day_chance(self, day)", "days(self)", "there(self, day)",
+                          "__len__(self)", "__eq__(self, other)", "__str__(self)", "read(text)"],
+    ("wishes", "Wish"): ["__init__(self, house, numbers)", "number(self, pair)", "numbers(self)",
+                         "__eq__(self, other)", "want(self, lot)", "total(self)", "of_bidder(self, name)",
+                         "scaled(self, factor)", "mixed(self, other, share)", "with_number(self, pair, number)",
+                         "turned(self, one, other)", "within(self, other)", "__str__(self)", "read(house, text)"],
+    ("rules", "Rule"): ["__init__(self, house, table)", "share(self, day, name)", "shares(self, day)", "wish(self)",
+                        "given(self)", "__eq__(self, other)", "__str__(self)", "read(house, text)"],
+}
+PROPERTIES = {("ratios", "Ratio"): ["top", "bottom"], ("houses", "House"): ["independent"]}
+
+
+def module(name):
+    return importlib.import_module("winoften." + name)
+
+
+class Interface(unittest.TestCase):
+    def test_functions(self):
+        for file, expected in FUNCTIONS.items():
+            for told in expected:
+                function = getattr(module(file), told.partition("(")[0])
+                self.assertTrue(inspect.isfunction(function))
+                self.assertEqual(function.__module__, "winoften." + file)
+                self.assertEqual(function.__name__ + str(inspect.signature(function)), told)
+
+    def test_classes(self):
+        for (file, name), expected in CLASSES.items():
+            found = getattr(module(file), name)
+            self.assertTrue(inspect.isclass(found))
+            self.assertEqual(found.__module__, "winoften." + file)
+            for told in expected:
+                method = told.partition("(")[0]
+                self.assertIn(method, vars(found))
+                self.assertEqual(method + str(inspect.signature(getattr(found, method))), told)
+
+    def test_properties(self):
+        for (file, name), expected in PROPERTIES.items():
+            for told in expected:
+                self.assertIsInstance(vars(getattr(module(file), name))[told], property)
+
+    def test_lots_are_generated(self):
+        self.assertTrue(inspect.isgeneratorfunction(module("lots").all_lots))
+
+
+if __name__ == "__main__":
+    unittest.main()

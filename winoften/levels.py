@@ -1,0 +1,59 @@
+"""Levels: how high units of pairs can be filled at the same time, each by its weight.
+
+A unit is a tuple of an index, the mask of its pairs, and its weight; a day one of the mask of the pairs that are
+there, and its mass. All weights and masses are integers.
+"""
+
+from winoften.networks import Network
+from winoften.pouring import links_to, lot_left_out
+
+
+def days_meeting(days, units):
+    """Return the days on which a unit is there, and the other days."""
+    pairs = 0
+    for _, mask, _ in units:
+        pairs = pairs | mask
+    meeting = [(there, mass) for there, mass in days if there & pairs]
+    return meeting, [(there, mass) for there, mass in days if not there & pairs]
+
+
+def lowest_level(days, units):
+    """Return the mass and the weight whose quotient is the greatest height that all units can have."""
+    low = units
+    some, _ = days_meeting(days, low)
+    parts = _split(some, low)
+    while parts is not None:
+        low, _ = parts
+        some, _ = days_meeting(some, low)
+        parts = _split(some, low)
+    return sum([mass for _, mass in some]), sum([weight for _, _, weight in low])
+
+
+def levels(days, units):
+    """Return tuples of mass, weight and indices: as even as possible, these units have the quotient as their height.
+
+    The days are to be some on which a unit is there. The heights ascend, but neighbours may be equal.
+    """
+    parts = _split(days, units)
+    if parts is None:
+        return [(sum([mass for _, mass in days]), sum([weight for _, _, weight in units]),
+                 [index for index, _, _ in units])]
+    low, high = parts
+    # The lower units have all of the days on which one of them is there, so the others share the other days.
+    some, others = days_meeting(days, low)
+    return [*levels(some, low), *levels(others, high)]
+
+
+def _split(days, units):
+    """Return None if the units can share all days by their weights, or else those that get less, and the others."""
+    weights = [weight for _, _, weight in units]
+    links = links_to([mask for _, mask, _ in units], [there for there, _ in days])
+    together = sum(weights)
+    network = Network([mass * together for _, mass in days], len(units), links)
+    masses = sum([mass for _, mass in days])
+    network.fill([weight * masses for weight in weights])
+    if network.is_sated():
+        return None
+    lot = lot_left_out(network, len(units))
+    low = [unit for place, unit in enumerate(units) if lot >> place & 1]
+    return low, [unit for place, unit in enumerate(units) if not lot >> place & 1]

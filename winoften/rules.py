@@ -1,0 +1,247 @@
+"""Rules: with which shares the bidders get the thing, and orders of pairs (promises 51 to 55)."""
+
+from winoften.errors import InvalidNumber, InvalidOrder, InvalidRule, InvalidText, UnknownName, WinError
+from winoften.forms import is_list_of, is_tuple_of
+from winoften.houses import check_house, check_likely_day, day_of, day_text
+from winoften.lots import is_lot
+from winoften.masks import coming_of_mask, mask_of, masked_days
+from winoften.ratios import Ratio, as_ratio, is_share, total
+from winoften.wishes import Wish
+
+MOST_PARTS = 40
+NOBODY = "nobody"
+
+
+class Rule:
+    """The share of each bidder that is there, for each day with a chance above 0."""
+
+    def __init__(self, house, table):
+        check_house(house)
+        if not isinstance(table, dict):
+            raise InvalidRule(table)
+        for day, shares in table.items():
+            check_likely_day(house, day)
+            _check_shares(house, day, shares)
+        self.house = house
+        self._table = {day: _all_shares(house, day, table.get(day, {})) for day, _ in house.days()}
+
+    def share(self, day, name):
+        """Return the share of a bidder on a day."""
+        check_likely_day(self.house, day)
+        if name not in self.house.names():
+            raise UnknownName(name)
+        return self._table[day].get(name, Ratio(0))
+
+    def shares(self, day):
+        """Return the dict from the names of the bidders that are there to their shares."""
+        check_likely_day(self.house, day)
+        return dict(self._table[day])
+
+    def wish(self):
+        """Return the wish that has the numbers of this rule."""
+        won = {pair: [] for pair in self.house.pairs()}
+        for day, chance in self.house.days():
+            for name, kind in self.house.there(day):
+                share = self._table[day][name]
+                if share != 0:
+                    won[(name, kind)].append(chance * share)
+        return Wish(self.house, {pair: total(parts).over(self.house.chance(pair)) for pair, parts in won.items()})
+
+    def given(self):
+        """Return the chance that some bidder gets the thing."""
+        return total([chance * total(list(self._table[day].values())) for day, chance in self.house.days()])
+
+    def __eq__(self, other):
+        if not isinstance(other, Rule):
+            return False
+        return self.house == other.house and self._table == other._table
+
+    def __str__(self):
+        return "\n".join([f"{day_text(day)}: {_shares_text(shares)}" for day, shares in self._table.items()])
+
+    @classmethod
+    def read(cls, house, text):
+        """Return the rule for a house with a text."""
+        check_house(house)
+        if not isinstance(text, str):
+            raise InvalidText(text)
+        try:
+            rule = cls(house, _parsed(text))
+        except WinError:
+            raise InvalidText(text) from None
+        if str(rule) != text:
+            raise InvalidText(text)
+        return rule
+
+
+def check_rule(rule):
+    """Raise InvalidRule unless a value is a Rule."""
+    if not isinstance(rule, Rule):
+        raise InvalidRule(rule)
+
+
+def is_order(house, order):
+    """Tell whether any value is an order."""
+    check_house(house)
+    return is_lot(house, order)
+
+
+def check_order(house, order):
+    """Raise InvalidHouse or InvalidOrder unless a value is an order of a house."""
+    if not is_order(house, order):
+        raise InvalidOrder(order)
+
+
+def winner(house, order, day):
+    """Return the name of the bidder that gets the thing by an order, or None."""
+    check_order(house, order)
+    there = house.there(day)
+    first = [name for name, kind in order if (name, kind) in there]
+    return first[0] if first else None
+
+
+def order_rule(house, order):
+    """Return the rule of an order."""
+    check_order(house, order)
+    table = {}
+    for day, _ in house.days():
+        name = winner(house, order, day)
+        if name is not None:
+            table[day] = {name: 1}
+    return Rule(house, table)
+
+
+def order_wish(house, order):
+    """Return the wish that has the numbers of an order."""
+    check_order(house, order)
+    wants = wants_by_order(house, order)
+    return Wish(house, {pair: want.over(house.chance(pair)) for pair, want in wants.items()})
+
+
+def wants_by_order(house, order):
+    """Return the dict from the pairs of an order to the chances that they win by it."""
+    wants = {}
+    days = masked_days(house)
+    for pair in order:
+        mask = mask_of(house, [pair])
+        wants[pair] = coming_of_mask(days, mask)
+        days = [(there, chance) for there, chance in days if not there & mask]
+    return wants
+
+
+def as_order(rule):
+    """Return an order whose rule a rule is, or None if there is none."""
+    check_rule(rule)
+    before = {}
+    for day, _ in rule.house.days():
+        there = rule.house.there(day)
+        shares = rule.shares(day)
+        winners = [(name, kind) for name, kind in there if shares[name] == 1]
+        if not winners and any([share != 0 for share in shares.values()]):
+            return None
+        # None stands for nobody, who comes behind all pairs of the order.
+        first = winners[0] if winners else None
+        beaten = before.setdefault(first, [])
+        beaten.extend([pair for pair in there if pair != first])
+    if any([pair in before for pair in before.get(None, [])]):
+        return None
+    return _sorted_by(before, [pair for pair in rule.house.pairs() if pair in before])
+
+
+def mixture(parts):
+    """Return the mixture of some rules with their shares."""
+    house = _checked_parts(parts)
+    return Rule(house, {day: _mixed_shares(parts, day) for day, _ in house.days()})
+
+
+def drawn(parts, number):
+    """Return the index of the rule that is called if a number is drawn."""
+    _checked_parts(parts)
+    if not is_share(number) or number == 1:
+        raise InvalidNumber(number)
+    rest = as_ratio(number)
+    index = 0
+    while not rest.below(parts[index][0]):
+        rest = rest - parts[index][0]
+        index += 1
+    return index
+
+
+def _check_shares(house, day, shares):
+    if not isinstance(shares, dict):
+        raise InvalidRule(shares)
+    names = [name for name, _ in house.there(day)]
+    for name, share in shares.items():
+        if name not in names:
+            raise UnknownName(name)
+        if not is_share(share):
+            raise InvalidNumber(share)
+    together = total(list(shares.values()))
+    if Ratio(1).below(together):
+        raise InvalidNumber(together)
+
+
+def _all_shares(house, day, shares):
+    return {name: as_ratio(shares.get(name, 0)) for name, _ in house.there(day)}
+
+
+def _shares_text(shares):
+    told = [f"{name} {share.text()}" for name, share in shares.items() if share != 0]
+    return ", ".join(told) if told else NOBODY
+
+
+def _parsed(text):
+    """Return the table of a text."""
+    table = {}
+    for line in text.split("\n"):
+        day, _, told = line.partition(": ")
+        table[day_of(day)] = {} if told == NOBODY else _parsed_shares(told)
+    return table
+
+
+def _parsed_shares(told):
+    shares = {}
+    for part in told.split(", "):
+        name, _, share = part.partition(" ")
+        shares[name] = Ratio.read(share)
+    return shares
+
+
+def _mixed_shares(parts, day):
+    told = [(share, rule.shares(day)) for share, rule in parts]
+    _, first = told[0]
+    return {name: total([shares[name] * share for share, shares in told]) for name in first}
+
+
+def _sorted_by(before, pairs):
+    """Return pairs in an order in which each one stands before those that it beats, or None if there is none."""
+    order = []
+    rest = pairs
+    while rest:
+        free = [pair for pair in rest if not any([pair in before[other] for other in rest])]
+        if not free:
+            return None
+        order.append(free[0])
+        rest = [pair for pair in rest if pair != free[0]]
+    return order
+
+
+def _checked_parts(parts):
+    """Return the house of the rules that are to be mixed."""
+    if not is_list_of(parts, 1, MOST_PARTS):
+        raise InvalidRule(parts)
+    houses = []
+    for item in parts:
+        if not is_tuple_of(item, 2):
+            raise InvalidRule(item)
+        share, rule = item
+        if not is_share(share) or share == 0:
+            raise InvalidNumber(share)
+        check_rule(rule)
+        houses.append(rule.house)
+        if rule.house != houses[0]:
+            raise InvalidRule(rule)
+    together = total([share for share, _ in parts])
+    if together != 1:
+        raise InvalidNumber(together)
+    return houses[0]
