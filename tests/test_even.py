@@ -310,6 +310,20 @@ class Groups(Case):
             many += len(set(map(fraction, means))) > 1
         self.assertGreater(many, 10)
 
+    def test_no_possible_wish_has_more_even_means(self):
+        draw = random.Random(113)
+        for house in small_houses(118, 40):
+            groups = self.random_groups(draw, house)
+            weights = [sum([fraction(house.chance(pair)) for pair in group]) for group in groups]
+            means, found = even_groups(house, groups)
+            best = sorted(map(fraction, means))
+            for _ in range(8):
+                wish = possible_wish(draw, house, draw.choice([2, 5]))
+                for other in (wish, found.mixed(wish, Ratio(99, 100))):
+                    told = [plain_want(other, group) / weight for group, weight in zip(groups, weights)]
+                    self.assertTrue(plain_possible(other))
+                    self.assertLessEqual(sorted(told), best)
+
     def test_single_pairs_are_even(self):
         for house in [*small_houses(114, 20), large_house()]:
             means, wish = even_groups(house, [[pair] for pair in house.pairs()])
