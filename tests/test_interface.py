@@ -23,6 +23,15 @@ FUNCTIONS = {
              "shows_even(wish, steps, *, weights=None)", "even_groups(house, groups)"],
     "bounds": ["between(house, bounds, *, served=())", "shows_between(house, bounds, told, *, served=())",
                "spans(house, bounds, *, served=())"],
+    "several": ["several_excess(wish, lot, most)", "several_answer(wish, most)", "is_several_answer(wish, told, most)",
+                "several_winners(house, order, day, most)", "several_wish(house, order, most)",
+                "several_mixing(wish, most)", "is_several_mixing(wish, told, most)",
+                "several_best(house, worths, most)", "several_roof(house, worths, most)", "fewest_things(wish)"],
+    "payments": ["fall(wish, values)", "are_fair(wish, values, payments)", "lies(wish, values, payments)",
+                 "greatest_payments(wish, values)", "income(house, payments)", "evened(house, values)",
+                 "best_income(house, values)"],
+    "logs": ["fits(house, order, log)", "order_from(house, log)", "shows_log(house, log, told)",
+             "next_winners(house, log, day)", "open_day(house, log)", "counts(house, log)", "seen_wish(house, log)"],
 }
 CLASSES = {
     ("ratios", "Ratio"): ["__init__(self, top, bottom=1)", "below(self, number)", "over(self, number)", "text(self)",
@@ -37,6 +46,9 @@ CLASSES = {
                          "turned(self, one, other)", "within(self, other)", "__str__(self)", "read(house, text)"],
     ("rules", "Rule"): ["__init__(self, house, table)", "share(self, day, name)", "shares(self, day)", "wish(self)",
                         "given(self)", "__eq__(self, other)", "__str__(self)", "read(house, text)"],
+    ("desk", "Desk"): ["__init__(self)", "house_now(self)", "wish_now(self)", "log_now(self)", "run(self, command)",
+                       "run_all(self, commands)", "trial(self, commands)", "undo(self)", "redo(self)",
+                       "history(self)"],
 }
 PROPERTIES = {("ratios", "Ratio"): ["top", "bottom"], ("houses", "House"): ["independent"]}
 

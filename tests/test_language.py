@@ -88,8 +88,9 @@ class Code(unittest.TestCase):
                 continue
             self.assertRegex(node.module, r"^winoften\.[a-z_]+$")
             source = PACKAGE / (node.module.split(".")[1] + ".py")
-            defined = {part.name for part in ast.parse(source.read_text()).body
-                       if isinstance(part, (ast.FunctionDef, ast.ClassDef))}
+            parts = ast.parse(source.read_text()).body
+            defined = {part.name for part in parts if isinstance(part, (ast.FunctionDef, ast.ClassDef))}
+            defined |= {part.targets[0].id for part in parts if isinstance(part, ast.Assign)}
             self.assertLessEqual(names, defined, path)
             wanted.setdefault(path, set()).add(source)
         self.assertNotIn(PACKAGE / "__init__.py", wanted)

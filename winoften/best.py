@@ -21,6 +21,26 @@ def check_worths(house, worths):
             raise InvalidNumber(worth)
 
 
+def falling(house, worths):
+    """Return the pairs with worths above 0, those with greater worths first."""
+    scale = Scale(list(worths.values()))
+    pairs = house.pairs()
+    ranks = [(-scale.whole(worths.get(pair, 0)), place) for place, pair in enumerate(pairs)]
+    return [pairs[place] for rank, place in sorted(ranks) if rank < 0]
+
+
+def falling_lots(house, worths):
+    """Return lots of the pairs with the greatest worths, growing, and by how much their worths are above the next."""
+    order = falling(house, worths)
+    found = []
+    for place, pair in enumerate(order):
+        after = worths[order[place + 1]] if place + 1 < len(order) else 0
+        weight = as_ratio(worths[pair]) - after
+        if weight != 0:
+            found.append((order[:place + 1], weight))
+    return found
+
+
 def worth_of(wish, worths):
     """Return the worth of a wish."""
     check_wish(wish)
@@ -32,22 +52,20 @@ def best(house, worths):
     """Return the greatest worth of all possible wishes, and an order whose numbers have it."""
     check_house(house)
     check_worths(house, worths)
-    order = _falling(house, worths)
-    return total([want * worths[pair] for pair, want in wants_by_order(house, order).items()]), order
+    order = falling(house, worths)
+    return worth_of_wants(wants_by_order(house, order), worths), order
+
+
+def worth_of_wants(wants, worths):
+    """Return the worth of what pairs with worths want."""
+    return total([want * worths[pair] for pair, want in wants.items()])
 
 
 def roof(house, worths):
     """Return a roof for worths whose bound is the greatest worth."""
     check_house(house)
     check_worths(house, worths)
-    order = _falling(house, worths)
-    found = []
-    for place, pair in enumerate(order):
-        after = worths[order[place + 1]] if place + 1 < len(order) else 0
-        weight = as_ratio(worths[pair]) - after
-        if weight != 0:
-            found.append((lot_of(house, order[:place + 1]), weight))
-    return found
+    return [(lot_of(house, lot), weight) for lot, weight in falling_lots(house, worths)]
 
 
 def is_roof(house, worths, told, most):
@@ -77,14 +95,6 @@ def worths_for(house, order):
     check_order(house, order)
     places = {pair: place for place, pair in enumerate(order)}
     return {pair: Ratio(len(order) - places[pair] if pair in places else -1) for pair in house.pairs()}
-
-
-def _falling(house, worths):
-    """Return the pairs with worths above 0, those with greater worths first."""
-    scale = Scale(list(worths.values()))
-    pairs = house.pairs()
-    ranks = [(-scale.whole(worths.get(pair, 0)), place) for place, pair in enumerate(pairs)]
-    return [pairs[place] for rank, place in sorted(ranks) if rank < 0]
 
 
 def _is_weighted_lot(house, value):

@@ -10,7 +10,7 @@ from winoften.possible import excess, is_possible
 from winoften.pouring import links_to, lot_left_out
 from winoften.ratios import as_ratio, is_amount
 from winoften.scales import Scale
-from winoften.wishes import Wish, is_wish_for
+from winoften.wishes import is_wish_for, wish_wanting
 
 FREE = (0, None)
 
@@ -88,8 +88,8 @@ def between(house, bounds, *, served=()):
     if frame.unserved(network) > 0:
         _, sinks = network.cut()
         return "little", [pairs[place] for place in sinks if frame.is_served(place)]
-    return "wish", Wish(house, {pair: frame.scale.ratio(network.into(place)).over(house.chance(pair))
-                                for place, pair in enumerate(pairs)})
+    return "wish", wish_wanting(house, {pair: frame.scale.ratio(network.into(place))
+                                        for place, pair in enumerate(pairs)})
 
 
 def shows_between(house, bounds, told, *, served=()):

@@ -2,23 +2,31 @@
 
 The comings of all lots are integers, by masks. A point is a list of integers, what each pair wants, all of them to
 be divided by one unit; no lot wants more than its coming. A corner is told by an order of places: each pair, in turn,
-wants by how much the coming of the pairs before it grows with it.
+wants by how much the coming of the pairs before it grows with it. If several things are given away, what a lot can
+have at most stands in the place of its coming.
 """
 
 from math import gcd
 
-from winoften.masks import comings_by_mask, sums_by_mask
+from winoften.masks import sums_by_mask
 from winoften.ratios import Ratio
 from winoften.scales import Scale
 from winoften.wishes import wants_of
 
 
-def tabled(wish):
+def tabled(wish, comings):
     """Return the comings of all lots, what the pairs want, and by what to divide the latter, all in integers."""
-    table, scale = comings_by_mask(wish.house)
+    table, scale = comings
     wants = [want * scale.whole(1) for want in wants_of(wish)]
     fine = Scale(wants)
     return table, fine.wholes(wants), fine.whole(1)
+
+
+def mixed_orders(wish, comings):
+    """Return tuples of a share and an order, few of them, whose mixture has the numbers of a possible wish."""
+    table, wants, unit = tabled(wish, comings)
+    pairs = wish.house.pairs()
+    return [(share, [pairs[place] for place in order]) for share, order in decomposed(table, wants, unit)]
 
 
 def corner_of(table, count, order):

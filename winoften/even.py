@@ -3,7 +3,7 @@
 from winoften.errors import Duplicate, InvalidGroups, InvalidNumber, InvalidWorths
 from winoften.forms import is_list, is_list_of, is_tuple_of
 from winoften.houses import check_house, check_pair
-from winoften.levels import days_meeting, levels
+from winoften.levels import even_heights
 from winoften.lots import check_lot, coming, is_lot
 from winoften.masks import mask_of, masked_days
 from winoften.networks import Network
@@ -11,7 +11,7 @@ from winoften.possible import is_possible
 from winoften.pouring import links_to
 from winoften.ratios import Ratio, as_ratio, is_number, total
 from winoften.scales import Scale
-from winoften.wishes import Wish, check_wish
+from winoften.wishes import Wish, check_wish, wish_wanting
 
 MOST_GROUPS = 16
 
@@ -67,18 +67,11 @@ def even_groups(house, groups):
     """Return the means of groups, as even as possible, and a wish that has them."""
     check_house(house)
     _check_groups(house, groups)
-    days = masked_days(house)
-    scale = Scale([chance for _, chance in days])
     masks = [mask_of(house, group) for group in groups]
     chances = [total([house.chance(pair) for pair in group]) for group in groups]
-    units = [(index, mask, scale.whole(chance)) for index, (mask, chance) in enumerate(zip(masks, chances))]
-    some, _ = days_meeting([(there, scale.whole(chance)) for there, chance in days], units)
-    means = [Ratio(0) for _ in groups]
-    for mass, weight, indices in levels(some, units):
-        for index in indices:
-            means[index] = Ratio(mass, weight)
+    means = even_heights(house, masks, chances)
     wants = [mean * chance for mean, chance in zip(means, chances)]
-    return means, _group_wish(house, days, masks, wants)
+    return means, _group_wish(house, masks, wants)
 
 
 def _checked_weights(house, weights):
@@ -110,23 +103,14 @@ def _check_groups(house, groups):
 
 def _heights(house, weights):
     """Return the heights of all pairs by the even wish."""
-    days = masked_days(house)
-    chances = Scale([chance for _, chance in days])
     wants = [house.chance(pair) * weight for pair, weight in weights.items()]
-    scale = Scale(wants)
-    units = [(place, 1 << place, scale.whole(want)) for place, want in enumerate(wants)]
-    some, _ = days_meeting([(there, chances.whole(chance)) for there, chance in days], units)
-    pairs = house.pairs()
-    heights = {pair: Ratio(0) for pair in pairs}
-    for mass, weight, places in levels(some, units):
-        height = chances.ratio(mass).over(scale.ratio(weight))
-        for place in places:
-            heights[pairs[place]] = height
-    return heights
+    heights = even_heights(house, [1 << place for place in range(len(house))], wants)
+    return {pair: height for pair, height in zip(house.pairs(), heights)}
 
 
-def _group_wish(house, days, masks, wants):
+def _group_wish(house, masks, wants):
     """Return a wish by which groups with masks want so much; of a group, the first pair that is there wins."""
+    days = masked_days(house)
     scale = Scale([*[chance for _, chance in days], *wants])
     links = links_to(masks, [there for there, _ in days])
     network = Network(scale.wholes([chance for _, chance in days]), len(masks), links)
@@ -136,7 +120,7 @@ def _group_wish(house, days, masks, wants):
         there, _ = days[day]
         some = there & masks[index]
         won[(some & -some).bit_length() - 1] += amount
-    return Wish(house, {pair: scale.ratio(want).over(house.chance(pair)) for pair, want in zip(house.pairs(), won)})
+    return wish_wanting(house, {pair: scale.ratio(want) for pair, want in zip(house.pairs(), won)})
 
 
 def _is_step(house, value):

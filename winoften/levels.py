@@ -4,8 +4,11 @@ A unit is a tuple of an index, the mask of its pairs, and its weight; a day one 
 there, and its mass. All weights and masses are integers.
 """
 
+from winoften.masks import whole_days
 from winoften.networks import Network
 from winoften.pouring import links_to, lot_left_out
+from winoften.ratios import Ratio
+from winoften.scales import Scale
 
 
 def days_meeting(days, units):
@@ -27,6 +30,23 @@ def lowest_level(days, units):
         some, _ = days_meeting(some, low)
         parts = _split(some, low)
     return sum([mass for _, mass in some]), sum([weight for _, _, weight in low])
+
+
+def even_heights(house, masks, wants):
+    """Return the heights, as even as possible, of lots with masks, that are filled by what they want.
+
+    No two of these lots have a common pair, and each one wants more than 0.
+    """
+    days, chances = whole_days(house)
+    scale = Scale(wants)
+    units = [(index, mask, scale.whole(want)) for index, (mask, want) in enumerate(zip(masks, wants))]
+    some, _ = days_meeting(days, units)
+    heights = [Ratio(0) for _ in masks]
+    for mass, weight, indices in levels(some, units) if units else []:
+        height = chances.ratio(mass).over(scale.ratio(weight))
+        for index in indices:
+            heights[index] = height
+    return heights
 
 
 def levels(days, units):

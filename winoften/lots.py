@@ -3,7 +3,8 @@
 from winoften.errors import Duplicate, InvalidCount, InvalidLot, TooMany
 from winoften.forms import is_list, is_whole
 from winoften.houses import check_house, check_pair
-from winoften.ratios import Ratio, total
+from winoften.masks import mask_of, several_of_mask
+from winoften.ratios import Ratio
 
 MOST_THINGS = 4
 MOST_LISTED_PAIRS = 10
@@ -68,7 +69,7 @@ def several(house, lot, most):
     check_house(house)
     check_lot(house, lot)
     check_count(most)
-    return total([chance * min(most, _count_there(house, lot, day)) for day, chance in house.days()])
+    return several_of_mask(house, mask_of(house, lot), most)
 
 
 def all_lots(house):
@@ -95,10 +96,6 @@ def alike(house):
         else:
             groups.append([name])
     return groups
-
-
-def _count_there(house, lot, day):
-    return len([pair for pair in house.there(day) if pair in lot])
 
 
 def _next_places(places, count):

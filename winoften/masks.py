@@ -1,6 +1,5 @@
 """Masks: lots, and the pairs that are there on a day, as integers with one bit for each pair of the house."""
 
-from winoften.ratios import total
 from winoften.scales import Scale
 
 
@@ -21,9 +20,19 @@ def masked_days(house):
     return [(_mask_of_day(bits, names, day), chance) for day, chance in house.days()]
 
 
-def coming_of_mask(days, mask):
-    """Return the coming of the lot with a mask, from masked days."""
-    return total([chance for there, chance in days if there & mask])
+def whole_days(house):
+    """Return the masked days of a house with their chances as integers, and the scale of these."""
+    days = masked_days(house)
+    scale = Scale([chance for _, chance in days])
+    return [(there, scale.whole(chance)) for there, chance in days], scale
+
+
+def several_of_mask(house, mask, most):
+    """Return the mean number of the pairs of a lot with a mask that are there, where more than most count as most."""
+    days, scale = whole_days(house)
+    if most == 1:
+        return scale.ratio(sum([chance for there, chance in days if there & mask]))
+    return scale.ratio(sum([chance * min(most, _count(there & mask)) for there, chance in days if there & mask]))
 
 
 def sums_by_mask(values):
@@ -36,18 +45,32 @@ def sums_by_mask(values):
 
 def comings_by_mask(house):
     """Return the comings of all lots, by masks, as integers, and their scale."""
-    days = masked_days(house)
-    scale = Scale([chance for _, chance in days])
+    days, scale = whole_days(house)
     count = 1 << len(house)
     missed = [0 for _ in range(count)]
     for there, chance in days:
-        missed[count - 1 - there] += scale.whole(chance)
+        missed[count - 1 - there] += chance
     # Behind these steps, each mask has the chance of the days on which nothing of it is there.
     for place in range(len(house)):
         for mask in reversed(range(count)):
             if not mask >> place & 1:
                 missed[mask] += missed[mask + (1 << place)]
     return [missed[0] - part for part in missed], scale
+
+
+def severals_by_mask(house, most):
+    """Return what all lots have at most if more than most pairs count as most, by masks, as integers; their scale."""
+    if most == 1:
+        return comings_by_mask(house)
+    days, scale = whole_days(house)
+    counts = sums_by_mask([1 for _ in range(len(house))])
+    return [sum([chance * min(most, counts[there & mask]) for there, chance in days])
+            for mask in range(1 << len(house))], scale
+
+
+def _count(mask):
+    """Return how many pairs the lot with a mask has."""
+    return f"{mask:b}".count("1")
 
 
 def _mask_of_day(bits, names, day):

@@ -1,6 +1,6 @@
 """Mixtures of orders: possible wishes as mixtures of few orders, and corners (promises 81 to 84)."""
 
-from winoften.decomposing import corner_of, decomposed, tabled
+from winoften.decomposing import corner_of, mixed_orders, tabled
 from winoften.forms import is_list, is_tuple_of
 from winoften.houses import check_house
 from winoften.lots import check_size
@@ -8,7 +8,7 @@ from winoften.masks import comings_by_mask
 from winoften.pouring import Pouring
 from winoften.ratios import is_share, total
 from winoften.rules import is_order, order_wish, wants_by_order
-from winoften.wishes import Wish, check_wish, wants_of
+from winoften.wishes import check_wish, wants_of, wish_wanting
 
 MOST_MIXED_PAIRS = 10
 MOST_CORNERED_PAIRS = 5
@@ -19,14 +19,17 @@ def mixing(wish):
     check_wish(wish)
     check_size(wish.house, MOST_MIXED_PAIRS)
     Pouring(wish).check()
-    table, wants, unit = tabled(wish)
-    pairs = wish.house.pairs()
-    return [(share, [pairs[place] for place in order]) for share, order in decomposed(table, wants, unit)]
+    return mixed_orders(wish, comings_by_mask(wish.house))
 
 
 def is_mixing(wish, told):
     """Tell whether any value is a mixing with the numbers of a wish."""
     check_wish(wish)
+    return mixes_to(wish, told, lambda order: wants_by_order(wish.house, order))
+
+
+def mixes_to(wish, told, wants_by):
+    """Tell whether any value is a mixing with the numbers of a wish, if the pairs want so much by an order."""
     if not is_list(told) or not all([_is_part(wish.house, item) for item in told]):
         return False
     orders = [list(order) for _, order in told]
@@ -36,7 +39,7 @@ def is_mixing(wish, told):
         return False
     won = {pair: [] for pair in wish.house.pairs()}
     for share, order in told:
-        for pair, want in wants_by_order(wish.house, order).items():
+        for pair, want in wants_by(order).items():
             won[pair].append(want * share)
     return wants_of(wish) == [total(parts) for parts in won.values()]
 
@@ -45,7 +48,7 @@ def corner_order(wish):
     """Return an order with the numbers of a wish, or None if it is not a corner."""
     check_wish(wish)
     check_size(wish.house, MOST_MIXED_PAIRS)
-    table, wants, unit = tabled(wish)
+    table, wants, unit = tabled(wish, comings_by_mask(wish.house))
     rest = [place for place, want in enumerate(wants) if want > 0]
     order = []
     lot = 0
@@ -73,17 +76,13 @@ def corners(house):
         for order in orders:
             found[tuple(corner_of(table, count, order))] = True
         orders = [[*order, place] for order in orders for place in range(count) if place not in order]
-    return [_wish_of(house, scale, wants) for wants in found]
+    return [wish_wanting(house, {pair: scale.ratio(want) for pair, want in zip(house.pairs(), wants)})
+            for wants in found]
 
 
 def same_orders(house, one, other):
     """Tell whether two orders have the same numbers."""
     return order_wish(house, one) == order_wish(house, other)
-
-
-def _wish_of(house, scale, wants):
-    numbers = {pair: scale.ratio(want).over(house.chance(pair)) for pair, want in zip(house.pairs(), wants)}
-    return Wish(house, numbers)
 
 
 def _is_part(house, value):

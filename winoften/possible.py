@@ -5,7 +5,7 @@ from winoften.forms import is_tuple_of
 from winoften.houses import check_pair
 from winoften.levels import lowest_level
 from winoften.lots import all_lots, check_size, coming, is_lot
-from winoften.masks import mask_of, masked_days, sums_by_mask
+from winoften.masks import comings_by_mask, mask_of, sums_by_mask, whole_days
 from winoften.pouring import Pouring
 from winoften.ratios import Ratio
 from winoften.rules import Rule
@@ -69,7 +69,7 @@ def full_lots(wish):
     house = wish.house
     check_size(house, MOST_LISTED_PAIRS)
     Pouring(wish).check()
-    table, wants, unit = tabled(wish)
+    table, wants, unit = tabled(wish, comings_by_mask(house))
     full = [want == unit * come for want, come in zip(sums_by_mask(wants), table)]
     return [lot for lot in all_lots(house) if full[mask_of(house, lot)]]
 
@@ -89,14 +89,13 @@ def binding(wish, pair):
 def factor(wish):
     """Return the greatest amount by which all numbers can be multiplied, or None if they are 0."""
     check_wish(wish)
-    days = masked_days(wish.house)
-    chances = Scale([chance for _, chance in days])
+    days, chances = whole_days(wish.house)
     wants = wants_of(wish)
     scale = Scale(wants)
     units = [(place, 1 << place, scale.whole(want)) for place, want in enumerate(wants) if want != 0]
     if not units:
         return None
-    mass, want = lowest_level([(there, chances.whole(chance)) for there, chance in days], units)
+    mass, want = lowest_level(days, units)
     return chances.ratio(mass).over(scale.ratio(want))
 
 

@@ -24,17 +24,21 @@ def lot_left_out(network, count):
 
 
 class Pouring:
-    """The days of a house, poured into what the pairs want by a wish."""
+    """The days of a house, with so many things each, poured into what the pairs want by a wish."""
 
-    def __init__(self, wish):
+    def __init__(self, wish, most=1):
         self.house = wish.house
         days = masked_days(wish.house)
         wants = wants_of(wish)
         self.scale = Scale([*[chance for _, chance in days], *wants])
-        self.masses = self.scale.wholes([chance for _, chance in days])
+        self.chances = self.scale.wholes([chance for _, chance in days])
+        self.masses = [chance * most for chance in self.chances]
         self.limits = self.scale.wholes(wants)
         units = [1 << place for place in range(len(wants))]
         self.links = links_to(units, [there for there, _ in days])
+        if most > 1:
+            # A bidder gets one thing at most, so that a link leads no more than the chance of its day.
+            self.links = [(day, unit, self.chances[day]) for day, unit, _ in self.links]
         self.network = Network(self.masses, len(wants), self.links)
         self.network.fill(self.limits)
 
@@ -55,7 +59,7 @@ class Pouring:
         for (place, unit, _), amount in zip(self.links, self.network.amounts()):
             if amount > 0:
                 name, _ = pairs[unit]
-                table[days[place]][name] = Ratio(amount, self.masses[place])
+                table[days[place]][name] = Ratio(amount, self.chances[place])
         return table
 
     def worst(self):

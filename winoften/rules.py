@@ -4,9 +4,9 @@ from winoften.errors import InvalidNumber, InvalidOrder, InvalidRule, InvalidTex
 from winoften.forms import is_list_of, is_tuple_of
 from winoften.houses import check_house, check_likely_day, day_of, day_text
 from winoften.lots import is_lot
-from winoften.masks import coming_of_mask, mask_of, masked_days
+from winoften.masks import mask_of, whole_days
 from winoften.ratios import Ratio, as_ratio, is_share, total
-from winoften.wishes import Wish
+from winoften.wishes import wish_wanting
 
 MOST_PARTS = 40
 NOBODY = "nobody"
@@ -45,7 +45,7 @@ class Rule:
                 share = self._table[day][name]
                 if share != 0:
                     won[(name, kind)].append(chance * share)
-        return Wish(self.house, {pair: total(parts).over(self.house.chance(pair)) for pair, parts in won.items()})
+        return wish_wanting(self.house, {pair: total(parts) for pair, parts in won.items()})
 
     def given(self):
         """Return the chance that some bidder gets the thing."""
@@ -114,18 +114,20 @@ def order_rule(house, order):
 def order_wish(house, order):
     """Return the wish that has the numbers of an order."""
     check_order(house, order)
-    wants = wants_by_order(house, order)
-    return Wish(house, {pair: want.over(house.chance(pair)) for pair, want in wants.items()})
+    return wish_wanting(house, wants_by_order(house, order))
 
 
-def wants_by_order(house, order):
-    """Return the dict from the pairs of an order to the chances that they win by it."""
+def wants_by_order(house, order, most=1):
+    """Return the dict from the pairs of an order to the chances that they get one of so many things by it."""
     wants = {}
-    days = masked_days(house)
+    days, scale = whole_days(house)
+    left = [(there, chance, most) for there, chance in days]
     for pair in order:
         mask = mask_of(house, [pair])
-        wants[pair] = coming_of_mask(days, mask)
-        days = [(there, chance) for there, chance in days if not there & mask]
+        served = [(there, chance, count - 1) for there, chance, count in left if there & mask]
+        wants[pair] = scale.ratio(sum([chance for _, chance, _ in served]))
+        others = [item for item in left if not item[0] & mask]
+        left = [*others, *[item for item in served if item[2] > 0]]
     return wants
 
 
@@ -145,7 +147,7 @@ def as_order(rule):
         beaten.extend([pair for pair in there if pair != first])
     if any([pair in before for pair in before.get(None, [])]):
         return None
-    return _sorted_by(before, [pair for pair in rule.house.pairs() if pair in before])
+    return sorted_by(before, [pair for pair in rule.house.pairs() if pair in before])
 
 
 def mixture(parts):
@@ -213,7 +215,7 @@ def _mixed_shares(parts, day):
     return {name: total([shares[name] * share for share, shares in told]) for name in first}
 
 
-def _sorted_by(before, pairs):
+def sorted_by(before, pairs):
     """Return pairs in an order in which each one stands before those that it beats, or None if there is none."""
     order = []
     rest = pairs

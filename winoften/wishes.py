@@ -118,6 +118,11 @@ def is_wish_for(house, value):
     return isinstance(value, Wish) and value.house == house
 
 
+def wish_wanting(house, wants):
+    """Return the wish by which pairs want so much, and all others nothing."""
+    return Wish(house, {pair: want.over(house.chance(pair)) for pair, want in wants.items()})
+
+
 def wants_of(wish):
     """Return what each pair wants, in order."""
     return [wish.house.chance(pair) * number for pair, number in wish.numbers().items()]
