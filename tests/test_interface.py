@@ -32,6 +32,17 @@ FUNCTIONS = {
                  "best_income(house, values)"],
     "logs": ["fits(house, order, log)", "order_from(house, log)", "shows_log(house, log, told)",
              "next_winners(house, log, day)", "open_day(house, log)", "counts(house, log)", "seen_wish(house, log)"],
+    "less": ["held_down(wish, lot)", "greatest_part(wish)", "shows_part(wish, value)", "best_part(wish, worths)",
+             "part_roof(wish, worths)", "is_part_roof(wish, worths, told, most)", "even_part(wish)", "part_steps(wish)",
+             "shows_part_steps(wish, part, steps)", "growing(wish)", "part_total(wish, number)"],
+    "deals": ["wins(house, days, deal)", "dealt(house, days, order)", "met(house, days, lot)",
+              "deal_with(house, days, quotas, *, given=0)", "shows_deal(house, days, quotas, value, *, given=0)",
+              "near_deal(house, days, wish)", "is_near(house, days, wish, value)"],
+    "chains": ["even_deal(house, days)", "chain(house, days, deal)", "is_chain(house, days, deal, value)"],
+    "things": ["served(house, things, lot, day)", "winners_with(house, things, order, day)",
+               "things_given(house, things, order, day)", "can_have_with(house, things, lot)",
+               "order_wish_with(house, things, order)", "answer_with(wish, things)", "is_answer_with(wish, things, value)",
+               "best_with(house, things, worths)", "roof_with(house, things, worths)"],
 }
 CLASSES = {
     ("ratios", "Ratio"): ["__init__(self, top, bottom=1)", "below(self, number)", "over(self, number)", "text(self)",

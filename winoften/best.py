@@ -4,7 +4,7 @@ from winoften.errors import InvalidNumber, InvalidWorths
 from winoften.forms import is_list, is_tuple_of
 from winoften.houses import check_house, check_pair
 from winoften.lots import coming, is_lot, lot_of
-from winoften.pouring import Pouring
+from winoften.pouring import poured
 from winoften.ratios import Ratio, as_ratio, is_number, total
 from winoften.rules import check_order, wants_by_order
 from winoften.scales import Scale
@@ -85,7 +85,7 @@ def is_roof(house, worths, told, most):
 def lost(wish, worths):
     """Return by how much the worth of a possible wish is below the greatest worth."""
     worth = worth_of(wish, worths)
-    Pouring(wish).check()
+    poured(wish).check()
     greatest_worth, _ = best(wish.house, worths)
     return greatest_worth - worth
 

@@ -3,7 +3,7 @@
 from winoften.errors import Duplicate, InvalidGroups, InvalidNumber, InvalidWorths
 from winoften.forms import is_list, is_list_of, is_tuple_of
 from winoften.houses import check_house, check_pair
-from winoften.levels import even_heights
+from winoften.levels import ascending_steps, even_heights
 from winoften.lots import check_lot, coming, is_lot
 from winoften.masks import mask_of, masked_days
 from winoften.networks import Network
@@ -27,16 +27,7 @@ def even(house, *, weights=None):
 def even_steps(house, *, weights=None):
     """Return the different heights by the even wish, ascending, each with the lot of the pairs that have it."""
     check_house(house)
-    steps = []
-    for pair, height in _heights(house, _checked_weights(house, weights)).items():
-        fitting = [lot for known, lot in steps if known == height]
-        if fitting:
-            fitting[0].append(pair)
-        else:
-            steps.append((height, [pair]))
-    scale = Scale([height for height, _ in steps])
-    ranks = [(scale.whole(height), place) for place, (height, _) in enumerate(steps)]
-    return [steps[place] for _, place in sorted(ranks)]
+    return ascending_steps(_heights(house, _checked_weights(house, weights)))
 
 
 def is_even(wish, *, weights=None):

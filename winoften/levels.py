@@ -49,6 +49,20 @@ def even_heights(house, masks, wants):
     return heights
 
 
+def ascending_steps(heights):
+    """Return the different heights of pairs, ascending, each with the lot of the pairs that have it."""
+    steps = []
+    for pair, height in heights.items():
+        fitting = [lot for known, lot in steps if known == height]
+        if fitting:
+            fitting[0].append(pair)
+        else:
+            steps.append((height, [pair]))
+    scale = Scale([height for height, _ in steps])
+    ranks = [(scale.whole(height), place) for place, (height, _) in enumerate(steps)]
+    return [steps[place] for _, place in sorted(ranks)]
+
+
 def levels(days, units):
     """Return tuples of mass, weight and indices: as even as possible, these units have the quotient as their height.
 

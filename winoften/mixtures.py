@@ -5,7 +5,7 @@ from winoften.forms import is_list, is_tuple_of
 from winoften.houses import check_house
 from winoften.lots import check_size
 from winoften.masks import comings_by_mask
-from winoften.pouring import Pouring
+from winoften.pouring import poured
 from winoften.ratios import is_share, total
 from winoften.rules import is_order, order_wish, wants_by_order
 from winoften.wishes import check_wish, wants_of, wish_wanting
@@ -18,7 +18,7 @@ def mixing(wish):
     """Return a mixing of few orders with the numbers of a possible wish."""
     check_wish(wish)
     check_size(wish.house, MOST_MIXED_PAIRS)
-    Pouring(wish).check()
+    poured(wish).check()
     return mixed_orders(wish, comings_by_mask(wish.house))
 
 

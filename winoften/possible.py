@@ -6,7 +6,7 @@ from winoften.houses import check_pair
 from winoften.levels import lowest_level
 from winoften.lots import all_lots, check_size, coming, is_lot
 from winoften.masks import comings_by_mask, mask_of, sums_by_mask, whole_days
-from winoften.pouring import Pouring
+from winoften.pouring import poured
 from winoften.ratios import Ratio
 from winoften.rules import Rule
 from winoften.scales import Scale
@@ -24,13 +24,13 @@ def excess(wish, lot):
 def worst_lot(wish):
     """Return a lot than which no lot has a greater excess."""
     check_wish(wish)
-    return Pouring(wish).worst()
+    return poured(wish).worst()
 
 
 def answer(wish):
     """Return a rule that has the numbers of a wish, or else a lot with an excess above 0."""
     check_wish(wish)
-    pouring = Pouring(wish)
+    pouring = poured(wish)
     if not pouring.is_possible():
         return "lot", pouring.worst()
     return "rule", Rule(wish.house, pouring.table())
@@ -39,7 +39,7 @@ def answer(wish):
 def is_possible(wish):
     """Tell whether a wish is possible."""
     check_wish(wish)
-    return Pouring(wish).is_possible()
+    return poured(wish).is_possible()
 
 
 def is_answer(wish, told):
@@ -68,7 +68,7 @@ def full_lots(wish):
     check_wish(wish)
     house = wish.house
     check_size(house, MOST_LISTED_PAIRS)
-    Pouring(wish).check()
+    poured(wish).check()
     table, wants, unit = tabled(wish, comings_by_mask(house))
     full = [want == unit * come for want, come in zip(sums_by_mask(wants), table)]
     return [lot for lot in all_lots(house) if full[mask_of(house, lot)]]
@@ -114,6 +114,6 @@ def _poured_on(wish, pair):
     """Return the days poured into what a wish wants, and how much more can flow to a pair."""
     check_wish(wish)
     check_pair(wish.house, pair)
-    pouring = Pouring(wish)
+    pouring = poured(wish)
     pouring.check()
     return pouring, pouring.pour_on(wish.house.pairs().index(pair))

@@ -5,7 +5,7 @@ that the cut leaves out are a lot that wants more than its coming, and no lot ha
 """
 
 from winoften.errors import Impossible
-from winoften.masks import lot_from, masked_days
+from winoften.masks import lot_from, mask_of, masked_days
 from winoften.networks import Network
 from winoften.ratios import Ratio
 from winoften.scales import Scale
@@ -23,8 +23,15 @@ def lot_left_out(network, count):
     return (1 << count) - 1 - sum([1 << sink for sink in sinks])
 
 
+def poured(wish, most=1):
+    """Return the days of a house, with so many things each, poured into what all pairs want by a wish."""
+    pouring = Pouring(wish, most)
+    pouring.network.fill(pouring.limits)
+    return pouring
+
+
 class Pouring:
-    """The days of a house, with so many things each, poured into what the pairs want by a wish."""
+    """The days of a house, with so many things each, and what the pairs want by a wish; at first nothing flows."""
 
     def __init__(self, wish, most=1):
         self.house = wish.house
@@ -40,7 +47,6 @@ class Pouring:
             # A bidder gets one thing at most, so that a link leads no more than the chance of its day.
             self.links = [(day, unit, self.chances[day]) for day, unit, _ in self.links]
         self.network = Network(self.masses, len(wants), self.links)
-        self.network.fill(self.limits)
 
     def is_possible(self):
         """Tell whether each pair gets what it wants."""
@@ -62,9 +68,22 @@ class Pouring:
                 table[days[place]][name] = Ratio(amount, self.chances[place])
         return table
 
+    def wants(self):
+        """Return what flows to each pair."""
+        return {pair: self.scale.ratio(self.network.into(place)) for place, pair in enumerate(self.house.pairs())}
+
     def worst(self):
-        """Return a lot than which no lot has a greater excess."""
+        """Return a lot than which no lot has a greater excess, if all is poured into what the pairs want."""
         return lot_from(self.house, lot_left_out(self.network, len(self.limits)))
+
+    def pour_into(self, lot):
+        """Let as much as possible flow to the pairs of a lot, which has all pairs that have got something before."""
+        pairs = self.house.pairs()
+        self.network.fill([limit if pair in lot else 0 for pair, limit in zip(pairs, self.limits)])
+
+    def core(self, lot):
+        """Return the pairs of a lot that has just been poured into which no more can flow to, whatever they want."""
+        return lot_from(self.house, lot_left_out(self.network, len(self.limits)) & mask_of(self.house, lot))
 
     def pour_on(self, place):
         """Let as much as possible flow to the pair at a place, besides what all pairs want."""

@@ -7,7 +7,7 @@ from winoften.houses import check_house
 from winoften.lots import MOST_THINGS, check_count, check_size, is_lot, several
 from winoften.masks import severals_by_mask
 from winoften.mixtures import MOST_MIXED_PAIRS, mixes_to
-from winoften.pouring import Pouring
+from winoften.pouring import poured
 from winoften.ratios import Ratio, is_share, total
 from winoften.rules import check_order, wants_by_order
 from winoften.wishes import check_wish, wants_of, wish_wanting
@@ -23,7 +23,7 @@ def several_answer(wish, most):
     """Return a table that has the numbers of a wish, or else a lot with an excess above 0."""
     check_wish(wish)
     check_count(most)
-    pouring = Pouring(wish, most)
+    pouring = poured(wish, most)
     if not pouring.is_possible():
         return "lot", pouring.worst()
     return "table", pouring.table()
@@ -61,7 +61,7 @@ def several_mixing(wish, most):
     check_wish(wish)
     check_count(most)
     check_size(wish.house, MOST_MIXED_PAIRS)
-    Pouring(wish, most).check()
+    poured(wish, most).check()
     return mixed_orders(wish, severals_by_mask(wish.house, most))
 
 
@@ -93,7 +93,7 @@ def fewest_things(wish):
     """Return the least count of things for which a wish is possible, or None if there is none."""
     check_wish(wish)
     for most in range(1, MOST_THINGS + 1):
-        if Pouring(wish, most).is_possible():
+        if poured(wish, most).is_possible():
             return most
     return None
 
