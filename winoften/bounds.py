@@ -4,7 +4,7 @@ from winoften.errors import InvalidBounds
 from winoften.forms import is_tuple_of
 from winoften.houses import check_house, check_pair
 from winoften.lots import check_lot, is_lot
-from winoften.masks import lot_from, mask_of, masked_days
+from winoften.masks import lot_from, mask_of, whole_days
 from winoften.networks import Network
 from winoften.possible import excess, is_possible
 from winoften.pouring import links_to, lot_left_out
@@ -22,13 +22,13 @@ class Frame:
         told = [(house.chance(pair), bounds.get(pair, FREE)) for pair in house.pairs()]
         lows = [chance * low for chance, (low, _) in told]
         highs = [None if high is None else chance * high for chance, (_, high) in told]
-        days = masked_days(house)
-        chances = [chance for _, chance in days]
+        days, chances = whole_days(house)
         self.serving = mask_of(house, served)
         # On a day on which pairs that are served are there, no other pair can win.
         self.masks = [there & self.serving if there & self.serving else there for there, _ in days]
-        self.scale = Scale([*chances, *lows, *[high for high in highs if high is not None]])
-        self.masses = self.scale.wholes(chances)
+        self.scale = Scale([chances.ratio(1), *lows, *[high for high in highs if high is not None]])
+        finer = self.scale.whole(chances.ratio(1))
+        self.masses = [chance * finer for _, chance in days]
         self.lows = self.scale.wholes(lows)
         self.highs = [None if high is None else self.scale.whole(high) for high in highs]
 

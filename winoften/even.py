@@ -5,7 +5,7 @@ from winoften.forms import is_list, is_list_of, is_tuple_of
 from winoften.houses import check_house, check_pair
 from winoften.levels import ascending_steps, even_heights
 from winoften.lots import check_lot, coming, is_lot
-from winoften.masks import mask_of, masked_days
+from winoften.masks import mask_of, whole_days
 from winoften.networks import Network
 from winoften.possible import is_possible
 from winoften.pouring import links_to
@@ -101,10 +101,11 @@ def _heights(house, weights):
 
 def _group_wish(house, masks, wants):
     """Return a wish by which groups with masks want so much; of a group, the first pair that is there wins."""
-    days = masked_days(house)
-    scale = Scale([*[chance for _, chance in days], *wants])
+    days, chances = whole_days(house)
+    scale = Scale([chances.ratio(1), *wants])
+    finer = scale.whole(chances.ratio(1))
     links = links_to(masks, [there for there, _ in days])
-    network = Network(scale.wholes([chance for _, chance in days]), len(masks), links)
+    network = Network([chance * finer for _, chance in days], len(masks), links)
     network.fill(scale.wholes(wants))
     won = [0 for _ in house.pairs()]
     for (day, index, _), amount in zip(links, network.amounts()):

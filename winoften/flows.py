@@ -3,7 +3,7 @@
 from winoften.errors import InvalidFlow, InvalidNumber
 from winoften.forms import is_list, is_list_of, is_tuple_of, is_whole
 from winoften.networks import Network
-from winoften.ratios import as_ratio, is_amount, is_number, total
+from winoften.ratios import is_amount, is_below, is_number, total
 from winoften.scales import Scale
 
 MOST_SOURCES = 700
@@ -14,14 +14,14 @@ MOST_LINKS = 3000
 def greatest_flow(masses, limits, links):
     """Return the sum of a greatest flow, the flow, and a cut whose bound is this sum."""
     _check_network(masses, limits, links)
-    bounds = [most for _, _, most in links]
-    scale = Scale([*masses, *limits, *[most for most in bounds if most is not None]])
-    wholes = [None if most is None else scale.whole(most) for most in bounds]
-    ways = [(source, sink, whole) for (source, sink, _), whole in zip(links, wholes)]
+    scale = Scale([*masses, *limits, *[most for _, _, most in links if most is not None]])
+    ways = [link if link[2] is None else (link[0], link[1], scale.whole(link[2])) for link in links]
     network = Network(scale.wholes(masses), len(limits), ways)
     network.fill(scale.wholes(limits))
-    flow = [scale.ratio(amount) for amount in network.amounts()]
-    return scale.ratio(network.flowing()), flow, network.cut()
+    amounts = network.amounts()
+    # Many links lead the same amount, and a Ratio never changes.
+    known = {amount: scale.ratio(amount) for amount in sorted(set(amounts))}
+    return scale.ratio(network.flowing()), [known[amount] for amount in amounts], network.cut()
 
 
 def is_flow(masses, limits, links, told):
@@ -32,7 +32,7 @@ def is_flow(masses, limits, links, told):
     out_of = [[] for _ in masses]
     into = [[] for _ in limits]
     for (source, sink, most), amount in zip(links, told):
-        if most is not None and _is_above(amount, most):
+        if most is not None and is_below(most, amount):
             return False
         out_of[source].append(amount)
         into[sink].append(amount)
@@ -49,11 +49,12 @@ def is_cut(masses, limits, links, told, most):
     sources, sinks = told
     if not _are_indices(sources, len(masses)) or not _are_indices(sinks, len(limits)):
         return False
-    crossing = [bound for source, sink, bound in links if source in sources and sink not in sinks]
+    inside = {source: True for source in sources}
+    crossing = [bound for source, sink, bound in links if source in inside and sink not in sinks]
     if None in crossing:
         return False
-    left_out = [mass for source, mass in enumerate(masses) if source not in sources]
-    return not _is_above(total([*left_out, *[limits[sink] for sink in sinks], *crossing]), most)
+    left_out = [mass for source, mass in enumerate(masses) if source not in inside]
+    return not is_below(most, total([*left_out, *[limits[sink] for sink in sinks], *crossing]))
 
 
 def _check_network(masses, limits, links):
@@ -61,9 +62,7 @@ def _check_network(masses, limits, links):
         raise InvalidFlow(masses)
     if not _are_amounts(limits, MOST_SINKS):
         raise InvalidFlow(limits)
-    if not is_list_of(links, 0, MOST_LINKS):
-        raise InvalidFlow(links)
-    if not all([_is_link(item, len(masses), len(limits)) for item in links]):
+    if not is_list_of(links, 0, MOST_LINKS) or not _are_links(links, len(masses), len(limits)):
         raise InvalidFlow(links)
 
 
@@ -71,11 +70,20 @@ def _are_amounts(value, most):
     return is_list_of(value, 0, most) and all([is_amount(item) for item in value])
 
 
-def _is_link(value, sources, sinks):
-    if not is_tuple_of(value, 3):
-        return False
-    source, sink, most = value
-    return _is_index(source, sources) and _is_index(sink, sinks) and (most is None or is_amount(most))
+def _are_links(items, sources, sinks):
+    """Tell whether all these values are links between so many sources and sinks."""
+    # There may be many: what is judged here by itself is judged elsewhere by functions.
+    for item in items:
+        if not isinstance(item, tuple) or len(item) != 3:
+            return False
+        source, sink, most = item
+        if source is True or source is False or not isinstance(source, int) or not 0 <= source < sources:
+            return False
+        if sink is True or sink is False or not isinstance(sink, int) or not 0 <= sink < sinks:
+            return False
+        if most is not None and not is_amount(most):
+            return False
+    return True
 
 
 def _is_index(value, count):
@@ -89,10 +97,6 @@ def _are_indices(value, count):
     return len(set(value)) == len(value)
 
 
-def _is_above(number, most):
-    return as_ratio(most).below(number)
-
-
 def _keep_within(groups, bounds):
     """Tell whether no group of amounts has a sum above its bound."""
-    return not any([_is_above(total(group), bound) for group, bound in zip(groups, bounds)])
+    return not any([is_below(bound, total(group)) for group, bound in zip(groups, bounds)])

@@ -3,7 +3,7 @@
 
 def is_whole(value):
     """Tell whether a value is an integer; True and False are none."""
-    return isinstance(value, int) and not isinstance(value, bool)
+    return isinstance(value, int) and value is not True and value is not False
 
 
 def is_list(value):

@@ -13,7 +13,7 @@ from winoften.errors import (
     WinError,
 )
 from winoften.forms import is_list_of, is_tuple_of
-from winoften.ratios import Ratio, as_ratio, is_number, total
+from winoften.ratios import Ratio, as_ratio, common_bottom, is_number, total, whole_over
 
 MOST_BIDDERS = 4
 MOST_KINDS = 4
@@ -28,7 +28,8 @@ class House:
         told = _checked_bidders(bidders, _checked_chances)
         named = [(name, tuple([kind for kind, _ in kinds])) for name, kinds in told]
         options = [_with_absence(kinds) for _, kinds in told]
-        self._settle(named, options, _product_days(options), True)
+        days, unit = _product_days(options)
+        self._settle(named, options, days, unit, True)
 
     @classmethod
     def tied(cls, bidders, days):
@@ -36,17 +37,22 @@ class House:
         named = _checked_bidders(bidders, _checked_kinds)
         chances = _checked_days(named, days)
         options = _observed_options(named, chances)
+        unit = common_bottom(list(chances.values()))
         ordered = [(day, chances[day]) for day in _all_days(named) if day in chances]
+        days = [(day, chance, whole_over(unit, chance)) for day, chance in ordered]
         # A House can only be had from its constructor, so any house will do to begin with.
         house = cls([("a", [("a", 1)])])
-        house._settle(named, options, ordered, _is_product(options, ordered))
+        house._settle(named, options, days, unit, _is_product(options, ordered))
         return house
 
-    def _settle(self, named, options, days, independent):
+    def _settle(self, named, options, days, unit, independent):
         self._bidders = tuple(named)
-        self._days = tuple(days)
+        self._days = tuple([(day, chance) for day, chance, _ in days])
         self._independent = independent
-        self._day_chances = {day: chance for day, chance in days}
+        self._day_chances = {day: chance for day, chance, _ in days}
+        self._unit = unit
+        bits = _bits(named)
+        self._wholes = [(sum([own[kind] for own, kind in zip(bits, day)]), whole) for day, _, whole in days]
         self._pair_chances = {}
         for (name, _), kinds in zip(named, options):
             for kind, chance in kinds:
@@ -86,6 +92,21 @@ class House:
         """Return the pairs that are there on a day, in order."""
         _check_day(self._bidders, day)
         return [(name, kind) for name, kind in zip(self.names(), day) if kind is not None]
+
+    def has_pair(self, value):
+        """Tell whether any value is a pair."""
+        if not is_tuple_of(value, 2):
+            return False
+        name, kind = value
+        return isinstance(name, str) and isinstance(kind, str) and value in self._pair_chances
+
+    def whole_days(self):
+        """Return, for each day, the mask of the pairs that are there, and the chance as an integer over the unit."""
+        return list(self._wholes)
+
+    def unit(self):
+        """Return a bottom over which the chances of all days are integers."""
+        return self._unit
 
     @property
     def independent(self):
@@ -133,7 +154,7 @@ def check_house(house):
 
 def check_pair(house, pair):
     """Raise UnknownPair unless a value is a pair of a house."""
-    if pair not in house.pairs():
+    if not house.has_pair(pair):
         raise UnknownPair(pair)
 
 
@@ -249,11 +270,29 @@ def _with_absence(kinds):
 
 
 def _product_days(options):
-    """Return the days of an independent house with their chances, in order."""
-    days = [((), Ratio(1))]
+    """Return the days of an independent house, in order, their chances, these as integers over a unit, and the unit."""
+    days = [((), Ratio(1), 1)]
+    unit = 1
     for kinds in options:
-        days = [((*day, kind), before * chance) for day, before in days for kind, chance in kinds]
-    return days
+        bottom = common_bottom([chance for _, chance in kinds])
+        told = [(kind, chance, whole_over(bottom, chance)) for kind, chance in kinds]
+        days = [((*day, kind), before * chance, count * whole)
+                for day, before, count in days for kind, chance, whole in told]
+        unit = unit * bottom
+    return days, unit
+
+
+def _bits(named):
+    """Return, for each bidder, the dict from its kinds to their bits among those of all pairs, and from None to 0."""
+    bits = []
+    place = 0
+    for _, kinds in named:
+        own = {None: 0}
+        for kind in kinds:
+            own[kind] = 1 << place
+            place += 1
+        bits.append(own)
+    return bits
 
 
 def _all_days(named):
@@ -278,8 +317,11 @@ def _is_product(options, days):
     count = 1
     for kinds in options:
         count = count * len(kinds)
+    if count != len(days):
+        return False
     # Told days are few, but their products may be many and long: they are made only if they can match.
-    return count == len(days) and _product_days(options) == days
+    products, _ = _product_days(options)
+    return days == [(day, chance) for day, chance, _ in products]
 
 
 def _lines(house):

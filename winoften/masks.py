@@ -1,5 +1,6 @@
 """Masks: lots, and the pairs that are there on a day, as integers with one bit for each pair of the house."""
 
+from winoften.ratios import Ratio
 from winoften.scales import Scale
 
 
@@ -13,18 +14,9 @@ def lot_from(house, mask):
     return [pair for place, pair in enumerate(house.pairs()) if mask >> place & 1]
 
 
-def masked_days(house):
-    """Return, for each day of a house, the mask of the pairs that are there, and the chance."""
-    bits = {pair: 1 << place for place, pair in enumerate(house.pairs())}
-    names = house.names()
-    return [(_mask_of_day(bits, names, day), chance) for day, chance in house.days()]
-
-
 def whole_days(house):
-    """Return the masked days of a house with their chances as integers, and the scale of these."""
-    days = masked_days(house)
-    scale = Scale([chance for _, chance in days])
-    return [(there, scale.whole(chance)) for there, chance in days], scale
+    """Return, for each day, the mask of the pairs that are there and the chance as an integer, and the scale."""
+    return house.whole_days(), Scale([Ratio(1, house.unit())])
 
 
 def several_of_mask(house, mask, most):
@@ -71,7 +63,3 @@ def severals_by_mask(house, most):
 def _count(mask):
     """Return how many pairs the lot with a mask has."""
     return f"{mask:b}".count("1")
-
-
-def _mask_of_day(bits, names, day):
-    return sum([bits[(name, kind)] for name, kind in zip(names, day) if kind is not None])

@@ -11,11 +11,13 @@ class Network:
         self._left = list(masses)
         self._links = list(links)
         self._amounts = [0 for _ in links]
-        self._outs = [[] for _ in masses]
-        self._ins = [[] for _ in range(sinks)]
+        outs = [[] for _ in masses]
+        ins = [[] for _ in range(sinks)]
         for place, (source, sink, _) in enumerate(links):
-            self._outs[source].append(place)
-            self._ins[sink].append(place)
+            outs[source].append(place)
+            ins[sink].append(place)
+        self._outs = outs
+        self._ins = ins
         self._rooms = [0 for _ in range(sinks)]
         self._source_levels = []
         self._sink_levels = []

@@ -8,7 +8,7 @@ from winoften.lots import all_lots, check_size, coming, is_lot
 from winoften.masks import comings_by_mask, mask_of, sums_by_mask, whole_days
 from winoften.pouring import poured
 from winoften.ratios import Ratio
-from winoften.rules import Rule
+from winoften.rules import Rule, rule_with
 from winoften.scales import Scale
 from winoften.wishes import check_wish, wants_of
 
@@ -33,7 +33,7 @@ def answer(wish):
     pouring = poured(wish)
     if not pouring.is_possible():
         return "lot", pouring.worst()
-    return "rule", Rule(wish.house, pouring.table())
+    return "rule", rule_with(wish.house, pouring.table())
 
 
 def is_possible(wish):

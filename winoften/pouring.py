@@ -5,7 +5,7 @@ that the cut leaves out are a lot that wants more than its coming, and no lot ha
 """
 
 from winoften.errors import Impossible
-from winoften.masks import lot_from, mask_of, masked_days
+from winoften.masks import lot_from, mask_of, whole_days
 from winoften.networks import Network
 from winoften.ratios import Ratio
 from winoften.scales import Scale
@@ -35,10 +35,11 @@ class Pouring:
 
     def __init__(self, wish, most=1):
         self.house = wish.house
-        days = masked_days(wish.house)
+        days, whole_chances = whole_days(wish.house)
         wants = wants_of(wish)
-        self.scale = Scale([*[chance for _, chance in days], *wants])
-        self.chances = self.scale.wholes([chance for _, chance in days])
+        self.scale = Scale([whole_chances.ratio(1), *wants])
+        finer = self.scale.whole(whole_chances.ratio(1))
+        self.chances = [chance * finer for _, chance in days]
         self.masses = [chance * most for chance in self.chances]
         self.limits = self.scale.wholes(wants)
         units = [1 << place for place in range(len(wants))]
@@ -61,11 +62,11 @@ class Pouring:
         """Return the table of a rule by which the pairs get what flows to them."""
         days = [day for day, _ in self.house.days()]
         pairs = self.house.pairs()
-        table = {day: {} for day in days}
+        table = {}
         for (place, unit, _), amount in zip(self.links, self.network.amounts()):
             if amount > 0:
                 name, _ = pairs[unit]
-                table[days[place]][name] = Ratio(amount, self.chances[place])
+                table.setdefault(days[place], {})[name] = Ratio(amount, self.chances[place])
         return table
 
     def wants(self):

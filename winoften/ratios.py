@@ -12,17 +12,21 @@ class Ratio:
     """The quotient of two integers, in lowest terms."""
 
     def __init__(self, top, bottom=1):
-        if not is_whole(top):
+        if not isinstance(top, int) or top is True or top is False:
             raise InvalidNumber(top)
-        if not is_whole(bottom):
+        if not isinstance(bottom, int) or bottom is True or bottom is False:
             raise InvalidNumber(bottom)
         if bottom == 0:
             raise ByZero()
         common = gcd(top, bottom)
         if bottom < 0:
             common = -common
-        self._top = top // common
-        self._bottom = bottom // common
+        if common == 1:
+            self._top = top
+            self._bottom = bottom
+        else:
+            self._top = top // common
+            self._bottom = bottom // common
 
     @property
     def top(self):
@@ -35,35 +39,41 @@ class Ratio:
         return self._bottom
 
     def __add__(self, other):
-        if not is_number(other):
-            return NotImplemented
-        right = as_ratio(other)
-        return Ratio(self._top * right.bottom + right.top * self._bottom, self._bottom * right.bottom)
+        if isinstance(other, Ratio):
+            return Ratio(self._top * other._bottom + other._top * self._bottom, self._bottom * other._bottom)
+        if is_whole(other):
+            return Ratio(self._top + other * self._bottom, self._bottom)
+        return NotImplemented
 
     def __sub__(self, other):
-        if not is_number(other):
-            return NotImplemented
-        right = as_ratio(other)
-        return Ratio(self._top * right.bottom - right.top * self._bottom, self._bottom * right.bottom)
+        if isinstance(other, Ratio):
+            return Ratio(self._top * other._bottom - other._top * self._bottom, self._bottom * other._bottom)
+        if is_whole(other):
+            return Ratio(self._top - other * self._bottom, self._bottom)
+        return NotImplemented
 
     def __mul__(self, other):
-        if not is_number(other):
-            return NotImplemented
-        right = as_ratio(other)
-        return Ratio(self._top * right.top, self._bottom * right.bottom)
+        if isinstance(other, Ratio):
+            return Ratio(self._top * other._top, self._bottom * other._bottom)
+        if is_whole(other):
+            return Ratio(self._top * other, self._bottom)
+        return NotImplemented
 
     def __neg__(self):
         return Ratio(-self._top, self._bottom)
 
     def __eq__(self, other):
         if isinstance(other, Ratio):
-            return self._top == other.top and self._bottom == other.bottom
+            return self._top == other._top and self._bottom == other._bottom
         return is_whole(other) and self._bottom == 1 and self._top == other
 
     def below(self, number):
         """Tell whether this Ratio is less than a number."""
-        right = as_ratio(number)
-        return self._top * right.bottom < right.top * self._bottom
+        if isinstance(number, Ratio):
+            return self._top * number._bottom < number._top * self._bottom
+        if not is_whole(number):
+            raise InvalidNumber(number)
+        return self._top < number * self._bottom
 
     def over(self, number):
         """Return the quotient of this Ratio by a number."""
@@ -94,17 +104,21 @@ class Ratio:
 
 def is_number(value):
     """Tell whether any value is a number."""
-    return is_whole(value) or isinstance(value, Ratio)
+    return isinstance(value, Ratio) or is_whole(value)
 
 
 def is_amount(value):
     """Tell whether any value is a number that is at least 0."""
-    return is_number(value) and not as_ratio(value).below(0)
+    if isinstance(value, Ratio):
+        return value._top >= 0
+    return isinstance(value, int) and value is not True and value is not False and value >= 0
 
 
 def is_share(value):
     """Tell whether any value is a number from 0 to 1."""
-    return is_amount(value) and not Ratio(1).below(value)
+    if isinstance(value, Ratio):
+        return 0 <= value._top <= value._bottom
+    return is_whole(value) and 0 <= value <= 1
 
 
 def as_ratio(number):
@@ -114,26 +128,49 @@ def as_ratio(number):
     return Ratio(number)
 
 
+def is_below(one, other):
+    """Tell whether a number is less than another one."""
+    if isinstance(one, Ratio):
+        return one.below(other)
+    if isinstance(other, Ratio):
+        return one * other._bottom < other._top
+    return one < other
+
+
 def common_bottom(numbers):
     """Return the least bottom over which all numbers of a list can be written."""
     bottom = 1
     for number in numbers:
-        bottom = lcm(bottom, as_ratio(number).bottom)
+        if isinstance(number, Ratio):
+            bottom = lcm(bottom, number._bottom)
     return bottom
 
 
 def whole_over(bottom, number):
     """Return the top of a number that is written over a bottom."""
-    ratio = as_ratio(number)
-    return ratio.top * (bottom // ratio.bottom)
+    if isinstance(number, Ratio):
+        return number._top * (bottom // number._bottom)
+    return number * bottom
 
 
 def total(numbers):
     """Return the sum of a list of numbers."""
-    _check_numbers(numbers)
+    if not is_list(numbers):
+        raise InvalidNumber(numbers)
+    whole = 0
+    quotients = []
+    for number in numbers:
+        if isinstance(number, Ratio):
+            quotients.append(number)
+        elif isinstance(number, int) and number is not True and number is not False:
+            whole += number
+        else:
+            raise InvalidNumber(numbers)
+    if not quotients:
+        return Ratio(whole)
     # One common bottom for all is much faster than a sum in lowest terms after each number.
-    bottom = common_bottom(numbers)
-    return Ratio(sum([whole_over(bottom, number) for number in numbers]), bottom)
+    bottom = common_bottom(quotients)
+    return Ratio(whole * bottom + sum([part._top * (bottom // part._bottom) for part in quotients]), bottom)
 
 
 def least(numbers):
@@ -141,7 +178,7 @@ def least(numbers):
     _check_some_numbers(numbers)
     found = 0
     for place in range(1, len(numbers)):
-        if as_ratio(numbers[place]).below(numbers[found]):
+        if is_below(numbers[place], numbers[found]):
             found = place
     return found
 

@@ -6,6 +6,7 @@ from winoften.houses import check_house, check_likely_day, day_of, day_text
 from winoften.lots import is_lot
 from winoften.masks import mask_of, whole_days
 from winoften.ratios import Ratio, as_ratio, is_share, total
+from winoften.scales import Scale
 from winoften.wishes import wish_wanting
 
 MOST_PARTS = 40
@@ -23,33 +24,43 @@ class Rule:
             check_likely_day(house, day)
             _check_shares(house, day, shares)
         self.house = house
-        self._table = {day: _all_shares(house, day, table.get(day, {})) for day, _ in house.days()}
+        self._settle({day: _above_zero(shares) for day, shares in table.items()})
+
+    def _settle(self, table):
+        # Only what is given away is kept, so that rules that give the same have equal tables.
+        self._table = {day: shares for day, shares in table.items() if shares}
 
     def share(self, day, name):
         """Return the share of a bidder on a day."""
         check_likely_day(self.house, day)
         if name not in self.house.names():
             raise UnknownName(name)
-        return self._table[day].get(name, Ratio(0))
+        return self.given_on(day).get(name, Ratio(0))
 
     def shares(self, day):
         """Return the dict from the names of the bidders that are there to their shares."""
         check_likely_day(self.house, day)
-        return dict(self._table[day])
+        given = self.given_on(day)
+        return {name: given.get(name, Ratio(0)) for name, _ in self.house.there(day)}
+
+    def given_on(self, day):
+        """Return the dict from the names of the bidders that get a share above 0 on a day to their shares."""
+        return dict(self._table.get(day, {}))
 
     def wish(self):
         """Return the wish that has the numbers of this rule."""
         won = {pair: [] for pair in self.house.pairs()}
+        names = self.house.names()
         for day, chance in self.house.days():
-            for name, kind in self.house.there(day):
-                share = self._table[day][name]
-                if share != 0:
-                    won[(name, kind)].append(chance * share)
+            shares = self.given_on(day)
+            for name, kind in zip(names, day):
+                if name in shares:
+                    won[(name, kind)].append(chance * shares[name])
         return wish_wanting(self.house, {pair: total(parts) for pair, parts in won.items()})
 
     def given(self):
         """Return the chance that some bidder gets the thing."""
-        return total([chance * total(list(self._table[day].values())) for day, chance in self.house.days()])
+        return total([chance * total(list(self.given_on(day).values())) for day, chance in self.house.days()])
 
     def __eq__(self, other):
         if not isinstance(other, Rule):
@@ -57,7 +68,7 @@ class Rule:
         return self.house == other.house and self._table == other._table
 
     def __str__(self):
-        return "\n".join([f"{day_text(day)}: {_shares_text(shares)}" for day, shares in self._table.items()])
+        return "\n".join([_day_line(self.house.names(), day, self.given_on(day)) for day, _ in self.house.days()])
 
     @classmethod
     def read(cls, house, text):
@@ -103,12 +114,21 @@ def winner(house, order, day):
 def order_rule(house, order):
     """Return the rule of an order."""
     check_order(house, order)
+    bits = [(mask_of(house, [pair]), pair[0]) for pair in order]
+    sure = Ratio(1)
     table = {}
-    for day, _ in house.days():
-        name = winner(house, order, day)
-        if name is not None:
-            table[day] = {name: 1}
-    return Rule(house, table)
+    for (day, _), (there, _) in zip(house.days(), house.whole_days()):
+        names = [name for bit, name in bits if there & bit]
+        if names:
+            table[day] = {names[0]: sure}
+    return rule_with(house, table)
+
+
+def rule_with(house, table):
+    """Return the rule with a table of shares above 0 that is known to be right."""
+    rule = Rule(house, {})
+    rule._settle(table)
+    return rule
 
 
 def order_wish(house, order):
@@ -153,7 +173,19 @@ def as_order(rule):
 def mixture(parts):
     """Return the mixture of some rules with their shares."""
     house = _checked_parts(parts)
-    return Rule(house, {day: _mixed_shares(parts, day) for day, _ in house.days()})
+    scale = Scale([share for share, _ in parts])
+    amounts = {day: {} for day, _ in house.days()}
+    for share, rule in parts:
+        whole = scale.whole(share)
+        for day, shares in rule._table.items():
+            on_day = amounts[day]
+            for name, part in shares.items():
+                # Most shares are 1, and integers are much faster to reckon with.
+                amount = whole if part == 1 else part * whole
+                on_day.setdefault(name, []).append(amount)
+    unit = scale.whole(1)
+    return rule_with(house, {day: {name: total(told).over(unit) for name, told in on_day.items()}
+                             for day, on_day in amounts.items()})
 
 
 def drawn(parts, number):
@@ -183,13 +215,15 @@ def _check_shares(house, day, shares):
         raise InvalidNumber(together)
 
 
-def _all_shares(house, day, shares):
-    return {name: as_ratio(shares.get(name, 0)) for name, _ in house.there(day)}
+def _above_zero(shares):
+    return {name: as_ratio(share) for name, share in shares.items() if share != 0}
 
 
-def _shares_text(shares):
-    told = [f"{name} {share.text()}" for name, share in shares.items() if share != 0]
-    return ", ".join(told) if told else NOBODY
+def _day_line(names, day, shares):
+    """Return the line of a day in the text of a rule."""
+    told = [f"{name} {shares[name].text()}" for name in names if name in shares]
+    who = ", ".join(told) if told else NOBODY
+    return f"{day_text(day)}: {who}"
 
 
 def _parsed(text):
@@ -207,12 +241,6 @@ def _parsed_shares(told):
         name, _, share = part.partition(" ")
         shares[name] = Ratio.read(share)
     return shares
-
-
-def _mixed_shares(parts, day):
-    told = [(share, rule.shares(day)) for share, rule in parts]
-    _, first = told[0]
-    return {name: total([shares[name] * share for share, shares in told]) for name in first}
 
 
 def sorted_by(before, pairs):
