@@ -1,5 +1,6 @@
 """Promises 2 and 13 to 15: ratios, and functions over numbers."""
 
+import random
 import unittest
 from fractions import Fraction
 
@@ -195,6 +196,26 @@ class Numbers(Case):
         for empty in ([], ()):
             self.refused(InvalidNumber, empty, least, empty)
             self.refused(InvalidNumber, empty, greatest, empty)
+
+    def test_long_numbers_are_judged_compared_and_summed(self):
+        draw = random.Random(15)
+        for _ in range(200):
+            numbers = [draw.choice([draw.randint(-10 ** 60, 10 ** 60), draw.randint(-1, 2),
+                                    Ratio(draw.randint(-10 ** 60, 10 ** 60), draw.randint(1, 10 ** 60)),
+                                    Ratio(10 ** 60 - 1, 10 ** 60), Ratio(draw.randint(-2, 2))]) for _ in range(8)]
+            plain = [as_fraction(number) for number in numbers]
+            for number, exact in zip(numbers, plain):
+                self.assertIs(is_number(number), True)
+                self.assertIs(is_amount(number), exact >= 0)
+                self.assertIs(is_share(number), 0 <= exact <= 1)
+                for other, exact_other in zip(numbers, plain):
+                    self.assertIs(as_ratio(number).below(other), exact < exact_other)
+                    self.assertIs(as_ratio(number) == other, exact == exact_other)
+                    self.assertEqual(as_fraction(as_ratio(number) + other), exact + exact_other)
+                    self.assertEqual(as_fraction(as_ratio(number) - other), exact - exact_other)
+                    self.assertEqual(as_fraction(as_ratio(number) * other), exact * exact_other)
+            self.assertEqual(as_fraction(total(numbers)), sum(plain))
+            self.assertEqual((least(numbers), greatest(numbers)), (plain.index(min(plain)), plain.index(max(plain))))
 
     def test_arguments_stay_as_they_are(self):
         numbers = [3, Ratio(1, 2), 1]

@@ -345,6 +345,19 @@ class Mixtures(Case):
                     expected = sum([fraction(share) * fraction(rule.share(day, name)) for share, rule in parts])
                     self.assertEqual(fraction(told.share(day, name)), expected)
 
+    def test_forty_rules_for_the_largest_house(self):
+        draw, house = random.Random(62), large_house()
+        rules = [order_rule(house, random_order(draw, house)) for _ in range(37)]
+        rules += [Rule(house, random_table(draw, house)) for _ in range(2)] + [Rule(house, {})]
+        parts = [(Ratio(place + 1, 820), rule) for place, rule in enumerate(rules)]
+        told = mixture(parts)
+        for day, _ in house.days()[::31]:
+            for name, _ in there(house, day):
+                expected = sum([fraction(share) * fraction(rule.share(day, name)) for share, rule in parts])
+                self.assertEqual(fraction(told.share(day, name)), expected)
+        self.assertEqual(fraction(told.given()), sum([fraction(share) * fraction(rule.given()) for share, rule in parts]))
+        self.assertTrue(Rule.read(house, str(told)) == told)
+
     def test_number_of_parts(self):
         rule = order_rule(document_house(), [LOW])
         self.assertTrue(mixture([(1, rule)]) == rule)

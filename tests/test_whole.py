@@ -335,6 +335,35 @@ class Doors(Case):
         self.assertTrue(Ratio(1) == 1 and not Ratio(1) == True and not Ratio(0) == False)  # noqa: E712
 
 
+class EqualHouses(Case):
+    def answers(self, draw, house):
+        """What many functions tell of a house, with the same arguments for the same draw."""
+        wish, other = random_wish(draw, house), possible_wish(draw, house, 4)
+        worths = {pair: draw.randint(-1, 3) for pair in house.pairs()}
+        bounds = {pair: (0, HALF) for pair in draw.sample(house.pairs(), draw.randint(0, len(house)))}
+        lot = draw.sample(house.pairs(), draw.randint(1, len(house)))
+        days = [draw.choice(house.days())[0] for _ in range(5)]
+        things = {"a": lot, "b": house.pairs()}
+        return [
+            str(house), house.days(), answer(wish), answer(other), worst_lot(wish), mixing(other), factor(wish),
+            best(house, worths), roof(house, worths), even_steps(house), between(house, bounds, served=lot),
+            several_answer(wish, 2), several_mixing(other, 2), greatest_part(wish), best_part(wish, worths),
+            part_roof(wish, worths), part_steps(wish), deal_with(house, days, {}), near_deal(house, days, other),
+            even_deal(house, days), answer_with(other, things), answer_with(wish, things),
+        ]
+
+    def test_independent_houses_told_by_days(self):
+        seen = 0
+        for place, house in enumerate(small_houses(22, 60)):
+            if house.independent and len(house.days()) <= 60:
+                seen += 1
+                other = House.tied([(name, house.kinds(name)) for name in house.names()], house.days()[::-1])
+                self.assertTrue(other == house and other.independent)
+                one, again = [self.answers(random.Random(place), some) for some in (house, other)]
+                self.assertTrue(same(one, again))
+        self.assertGreater(seen, 20)
+
+
 class Guarantees(Case):
     """The points of [11]."""
 

@@ -9,7 +9,7 @@ from winoften.masks import mask_of, whole_days
 from winoften.networks import Network
 from winoften.possible import is_possible
 from winoften.pouring import links_to
-from winoften.ratios import Ratio, as_ratio, is_number, total
+from winoften.ratios import Ratio, are_ascending, as_ratio, is_number, total
 from winoften.scales import Scale
 from winoften.wishes import Wish, check_wish, wish_wanting
 
@@ -43,15 +43,14 @@ def shows_even(wish, steps, *, weights=None):
     told = _checked_weights(house, weights)
     if not is_list(steps) or not all([_is_step(house, item) for item in steps]):
         return False
-    heights = [as_ratio(height) for height, _ in steps]
-    if not all([heights[place].below(heights[place + 1]) for place in range(len(heights) - 1)]):
+    if not are_ascending([height for height, _ in steps]):
         return False
     # No pair has two heights, so that none is counted twice here if all have the height of their lot.
     if sum([len(lot) for _, lot in steps]) != len(house):
         return False
     if any([wish.number(pair) != told[pair] * height for height, lot in steps for pair in lot]):
         return False
-    return _are_full(wish, [lot for _, lot in steps]) and is_possible(wish)
+    return are_full(wish, [lot for _, lot in steps]) and is_possible(wish)
 
 
 def even_groups(house, groups):
@@ -123,7 +122,7 @@ def _is_step(house, value):
     return is_number(height) and is_lot(house, lot) and len(lot) > 0
 
 
-def _are_full(wish, lots):
+def are_full(wish, lots):
     """Tell whether the pairs of the first so many lots, for each number of lots, are a full lot together."""
     together = []
     for lot in lots:

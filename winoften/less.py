@@ -2,12 +2,13 @@
 
 from winoften.best import check_worths, falling, falling_lots, worth_of_wants
 from winoften.errors import InvalidNumber
+from winoften.even import are_full
 from winoften.forms import is_list, is_tuple_of
 from winoften.levels import ascending_steps, even_heights
 from winoften.lots import check_lot, coming, is_lot, lot_of
 from winoften.possible import is_possible
 from winoften.pouring import Pouring, poured
-from winoften.ratios import Ratio, as_ratio, is_amount, is_number, is_share, total
+from winoften.ratios import Ratio, are_ascending, as_ratio, is_amount, is_number, is_share, total
 from winoften.wishes import Wish, check_wish, is_wish_for, wish_wanting
 
 
@@ -89,8 +90,7 @@ def shows_part_steps(wish, part, steps):
     check_wish(wish)
     if not _is_part(wish, part) or not is_list(steps) or not all([_is_step(wish.house, item) for item in steps]):
         return False
-    ratios = [as_ratio(ratio) for ratio, _ in steps]
-    if not all([ratios[place].below(ratios[place + 1]) for place in range(len(ratios) - 1)]):
+    if not are_ascending([ratio for ratio, _ in steps]):
         return False
     wanting = _wanting(wish)
     told = [pair for _, lot in steps for pair in lot]
@@ -99,8 +99,7 @@ def shows_part_steps(wish, part, steps):
         return False
     if any([part.number(pair) != wish.number(pair) * ratio for ratio, lot in steps for pair in lot]):
         return False
-    lots = [lot for ratio, lot in steps if ratio != 1]
-    return all([_is_full(part, lots[:place + 1]) for place in range(len(lots))])
+    return are_full(part, [lot for ratio, lot in steps if ratio != 1])
 
 
 def growing(wish):
@@ -170,9 +169,3 @@ def _is_step(house, value):
         return False
     ratio, lot = value
     return is_share(ratio) and is_lot(house, lot) and len(lot) > 0
-
-
-def _is_full(part, lots):
-    """Tell whether the pairs of some lots are a full lot together."""
-    together = [pair for lot in lots for pair in lot]
-    return part.want(together) == coming(part.house, together)

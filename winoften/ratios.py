@@ -137,6 +137,11 @@ def is_below(one, other):
     return one < other
 
 
+def are_ascending(numbers):
+    """Tell whether each number of a list is greater than the one before."""
+    return all([is_below(low, high) for low, high in zip(numbers, numbers[1:])])
+
+
 def common_bottom(numbers):
     """Return the least bottom over which all numbers of a list can be written."""
     bottom = 1

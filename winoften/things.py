@@ -5,14 +5,13 @@ from winoften.decomposing import mixed_orders, tabled
 from winoften.errors import InvalidThings
 from winoften.forms import is_tuple_of
 from winoften.houses import check_house, is_name
-from winoften.lots import check_lot, check_size, is_lot
+from winoften.lots import MOST_THINGS, check_lot, check_size, is_lot
 from winoften.masks import lot_from, sums_by_mask, whole_days
 from winoften.mixtures import mixes_to
 from winoften.ratios import total
 from winoften.rules import check_order
 from winoften.wishes import check_wish, wish_wanting
 
-MOST_THINGS = 4
 MOST_ANSWERED_PAIRS = 8
 
 
