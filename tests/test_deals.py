@@ -291,6 +291,9 @@ class Quotas(Case):
         self.assertEqual(self.checked(house, [(None, None)], {}, 0), "deal")
         self.assertEqual(self.checked(house, [(None, None)], {}, 1), "little")
         self.assertEqual(self.checked(house, DAYS, {LOW: (0, 0), HIGH: (0, 10 ** 60)}, 10 ** 60), "little")
+        self.assertEqual(deal_with(house, [(None, None)], {}), ("deal", [None]))
+        self.assertIs(shows_deal(house, [(None, None)], {}, ("deal", [None])), True)
+        self.assertIs(shows_deal(house, [(None, None)], {}, ("little", [])), False)
         self.assertEqual(deal_with(house, DAYS, {BOB: (2, 2)}), deal_with(house, tuple(DAYS), {BOB: (2, 2)}, given=0))
 
     def test_a_hundred_days(self):

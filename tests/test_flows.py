@@ -246,6 +246,8 @@ class WrongNetworks(Case):
             [("0", 0, None)], [fine] * 3001, [fine] * 2999 + [(0, 5, None)],
         ]:
             self.refused_by_all(wrong, [1], [1, 1], wrong)
+        for wrong in [[(True, 0, None)], [(False, 0, None)], [(0, True, None)], [(0, False, None)], [(0, 0, False)]]:
+            self.refused_by_all(wrong, [1, 1], [1, 1], wrong)
 
     def test_sizes_that_are_allowed(self):
         masses, limits, links = [1] * 700, [1] * 20, [(699, 19, None)] * 3000

@@ -266,7 +266,7 @@ class BestParts(Case):
         self.assertIs(is_part_roof(wish, worths, [*right, ([HIGH], [], 1)], worth), False)
         self.assertIs(is_part_roof(wish, worths, [*right, ([HIGH], [], 1)], worth + Ratio(1, 4)), True)
         self.assertIs(is_part_roof(wish, worths, [right[0], right[0], ([BOB], [], 1)], 2), True)
-        for wrong in [right[:1], right[1:], [], [([LOW], [], 1 - TINY.top), right[1]], [([LOW], [], 0), right[1]],
+        for wrong in [right[:1], right[1:], [], [([LOW], [], 2)], [([BOB], [], 9)], [([LOW], [], 1 - TINY.top), right[1]], [([LOW], [], 0), right[1]],
                       [*right, ([], [], 1)], [*right, ([HIGH], [], 0)], [*right, ([HIGH], [], -1)],
                       [*right, ([HIGH], [], True)], [*right, ([HIGH], [LOW], 1)], [*right, ([HIGH, HIGH], [], 1)],
                       [*right, ([HIGH], [HIGH, HIGH], 1)], [*right, ([HIGH], 1)], [*right, [[HIGH], [], 1]],

@@ -14,8 +14,11 @@ MOST_LINKS = 3000
 def greatest_flow(masses, limits, links):
     """Return the sum of a greatest flow, the flow, and a cut whose bound is this sum."""
     _check_network(masses, limits, links)
-    scale = Scale([*masses, *limits, *[most for _, _, most in links if most is not None]])
-    ways = [link if link[2] is None else (link[0], link[1], scale.whole(link[2])) for link in links]
+    bounds = [most for _, _, most in links if most is not None]
+    scale = Scale([*masses, *limits, *bounds])
+    ways = links
+    if bounds:
+        ways = [(source, sink, None if most is None else scale.whole(most)) for source, sink, most in links]
     network = Network(scale.wholes(masses), len(limits), ways)
     network.fill(scale.wholes(limits))
     amounts = network.amounts()

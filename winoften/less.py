@@ -5,7 +5,7 @@ from winoften.errors import InvalidNumber
 from winoften.even import are_full
 from winoften.forms import is_list, is_tuple_of
 from winoften.levels import ascending_steps, even_heights
-from winoften.lots import check_lot, coming, is_lot, lot_of
+from winoften.lots import coming, is_lot, lot_of
 from winoften.possible import is_possible
 from winoften.pouring import Pouring, poured
 from winoften.ratios import Ratio, are_ascending, as_ratio, is_amount, is_number, is_share, total
@@ -15,7 +15,6 @@ from winoften.wishes import Wish, check_wish, is_wish_for, wish_wanting
 def held_down(wish, lot):
     """Return the coming of a lot and what the other pairs want, together."""
     check_wish(wish)
-    check_lot(wish.house, lot)
     return coming(wish.house, lot) + wish.want([pair for pair in wish.house.pairs() if pair not in lot])
 
 
