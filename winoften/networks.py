@@ -10,7 +10,7 @@ class Network:
     def __init__(self, masses, sinks, links):
         self._left = list(masses)
         self._links = list(links)
-        self._amounts = [0 for _ in links]
+        self._amounts = [0] * len(links)
         outs = [[] for _ in masses]
         ins = [[] for _ in range(sinks)]
         for place, (source, sink, _) in enumerate(links):
